@@ -1,0 +1,1 @@
+"""Treerooms: webs of finite rooms, and words that walk through them."""

@@ -1,0 +1,1 @@
+"""Rooms, their lots, and how rooms are led into rooms."""

@@ -1,0 +1,1 @@
+"""Webs of rooms, roads through them, and plain roads."""

@@ -1,0 +1,26 @@
+"""Ties as they are gone in one of both directions."""
+
+from treerooms.base.lots import partings
+
+
+class Side:
+    """A directed tie, from the room at `source` to the point `target`."""
+
+    def __init__(self, source, target, room, pairs):
+        goals = dict(pairs)
+        self.source = source
+        self.target = target
+        self.within = tuple([member for member, _ in pairs])
+        self.carries = tuple([goals.get(member) for member in range(room.size)])
+        self.parts = partings(room, self.within)
+        self.leasts = tuple([member for member in range(room.size) if self.parts[member][0] == member])
+
+
+def sides_of(rooms, ties):
+    """The sides of all directed ties, by the directed ties."""
+    sides = {}
+    for number, (begin, end, pairs) in enumerate(ties, start=1):
+        back = tuple(sorted([(goal, member) for member, goal in pairs]))
+        sides[number] = Side(begin, end, rooms[begin], pairs)
+        sides[-number] = Side(end, begin, rooms[end], back)
+    return sides
