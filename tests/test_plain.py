@@ -174,7 +174,7 @@ class Words(unittest.TestCase):
             for one, other in itertools.product(words, repeat=2):
                 self.assertIs(are_equal(web, one, other), plain(web, 0, one) == plain(web, 0, other))
                 if math.prod(len(web.lot(tie)) for tie in one[1::2] + other[1::2]) <= 300:
-                    self.assertIs(are_equal(web, one, other), other in WEBS or bool(reading.shortest(one) & reading.shortest(other)))
+                    self.assertIs(are_equal(web, one, other), bool(reading.shortest(one) & reading.shortest(other)))
             for one, other, last in itertools.product(words[:6], repeat=3):
                 ahead = product(web, product(web, one, other), last)
                 self.assertEqual(ahead, product(web, one, product(web, other, last)))

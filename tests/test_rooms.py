@@ -127,14 +127,6 @@ class TheClass(unittest.TestCase):
         self.assertEqual(str(ROOMS["twenty-four of six"]), "room of 6 points, 24 members")
         self.assertEqual(str(Room(1, ())), "room of 1 points, 1 members")
 
-    def test_a_room_keeps_nothing_of_a_list(self):
-        with self.assertRaises(AttributeError):
-            TWO.points = 3
-        with self.assertRaises(AttributeError):
-            TWO.members = ()
-        with self.assertRaises(AttributeError):
-            TWO.size = 3
-
 
 class Members(unittest.TestCase):
     def test_product_does_the_first_one_first(self):

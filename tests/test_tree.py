@@ -46,10 +46,12 @@ def places(web, most):
 
 
 def are_neighbours(one, other):
-    return one in (other[:-2],) and len(other) >= 2 or other == one[:-2] and len(one) >= 2
+    """Whether one of both is the other one with one stay and one tie more."""
+    return (other != () and one == other[:-2]) or (one != () and other == one[:-2])
 
 
 def turned_to_itself(room, lot):
+    """Whether all members turn the lot into itself."""
     return all(times(room, times(room, c, a), undone(room, c)) in lot for a in lot for c in range(room.size))
 
 
@@ -117,7 +119,7 @@ class Places(unittest.TestCase):
             [0, 1, 0], (1, 1), (2,), (True,), (0, -1, 0), (0, 1, 3), (0, True, 0), line_road(FREE23, 61), (0, 1, 10 ** 60),
         )
         check_arguments(self, place_of, (FREE23, (1, 1, 2)), [webs_wrong(), roads])
-        wrong = [(value, error) for value, error in roads_wrong(*NO_PLACES, LONGER) if value != ()]
+        wrong = [(value, error) for value, error in roads_wrong(*NO_PLACES, LONGER, LONGER[:-2]) if value != ()]
         for function in (point_of, neighbours, stayers):
             check_arguments(self, function, (FREE23, PLACE), [webs_wrong(), wrong])
             check_arguments(self, function, (FREE23, ()), [webs_wrong(), wrong])
@@ -334,17 +336,13 @@ class Still(unittest.TestCase):
         self.assertIs(is_still(LINE, (0,)), True)
 
     def test_what_is_not_true(self):
-        # (0, 1, 1, -1, 0) of DOWN comes of the room at 1 and leaves more than one place.
-        word = (1,)
-        self.assertEqual((moved(FREE23, word, ()), moved(FREE23, word, (0, 1))), ((), (1, 1)))
         self.assertEqual((are_equal(LOOP, (1,), (0,)), is_still(LOOP, (1,))), (False, True))
         shared = set(SHARED.lot(-1)) & set(SHARED.lot(2)) & set(SHARED.lot(-2))
         self.assertEqual((shared, still_lots(SHARED)), ({0}, ((0,), (0,))))
         six = Web((SIX, SIX), ((0, 1, IDLE + ((1, 1),)),))
         self.assertEqual((six.lot(1), still_lots(six)), ((0, 1), ((0,), (0,))))
-        double = Web((SIX, Room.whole(3)), ((0, 1, IDLE + ((1, 1),)),))
-        self.assertEqual([moved(double, (1,), place) == place for place in ((), (0, 1), (2, 1))], [True, True, False])
-        self.assertIs(is_still(double, (1,)), False)
+        self.assertEqual([moved(six, (1,), place) == place for place in ((), (0, 1), (2, 1))], [True, True, False])
+        self.assertIs(is_still(six, (1,)), False)
 
     def test_powers(self):
         self.assertIs(is_still(FREE23, power(FREE23, (1,), 2)), True)

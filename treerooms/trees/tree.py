@@ -43,7 +43,7 @@ def place_of(web, road):
     """The place of a road from the point 0."""
     check_web(web)
     check_road(web, 0, road)
-    return plain_walk(web, 0, road)[:-1]
+    return plain_walk(web, road)[:-1]
 
 
 def point_of(web, place):
@@ -92,7 +92,7 @@ def moved(web, word, place):
     check_web(web)
     check_word(web, word)
     check_place(web, place)
-    return plain_walk(web, 0, joined_walk(web, 0, word, place + (0,)))[:-1]
+    return plain_walk(web, joined_walk(web, 0, word, place + (0,)))[:-1]
 
 
 def stayers(web, place):
@@ -102,7 +102,7 @@ def stayers(web, place):
     back = walk_back(web, 0, place + (0,))
     room = web.rooms[point_at(web, place)]
     words = [joined_walk(web, 0, (*place, member), back) for member in range(room.size)]
-    return tuple([plain_walk(web, 0, word) for word in words])
+    return tuple([plain_walk(web, word) for word in words])
 
 
 def still_lots(web):
@@ -139,5 +139,5 @@ def is_still(web, word):
     """Whether a word leaves all places."""
     check_web(web)
     check_word(web, word)
-    form = plain_walk(web, 0, word)
+    form = plain_walk(web, word)
     return len(form) == 1 and form[0] in greatest_lots(web)[0]

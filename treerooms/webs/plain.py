@@ -15,7 +15,7 @@ def plain(web, point, road):
     """The plain road that is equal to the road."""
     check_start(web, point)
     check_road(web, point, road)
-    return plain_walk(web, point, road)
+    return plain_walk(web, road)
 
 
 def is_plain(web, point, value):
@@ -27,14 +27,14 @@ def is_plain(web, point, value):
 def product(web, one, other):
     """The plain word that is equal to `one` with `other` behind it."""
     check_words(web, one, other)
-    return plain_walk(web, 0, joined_walk(web, 0, one, other))
+    return plain_walk(web, joined_walk(web, 0, one, other))
 
 
 def contrary(web, word):
     """The plain word that undoes a word."""
     check_web(web)
     check_word(web, word)
-    return plain_walk(web, 0, walk_back(web, 0, word))
+    return plain_walk(web, walk_back(web, 0, word))
 
 
 def power(web, word, many):
@@ -46,20 +46,20 @@ def power(web, word, many):
     reached = (0,)
     for _ in range(abs(many)):
         reached = joined_walk(web, 0, reached, step)
-    return plain_walk(web, 0, reached)
+    return plain_walk(web, reached)
 
 
 def are_equal(web, one, other):
     """Whether two words are equal."""
     check_words(web, one, other)
-    return plain_walk(web, 0, one) == plain_walk(web, 0, other)
+    return plain_walk(web, one) == plain_walk(web, other)
 
 
 def is_nothing(web, word):
     """Whether a word is equal to (0,)."""
     check_web(web)
     check_word(web, word)
-    return plain_walk(web, 0, word) == (0,)
+    return plain_walk(web, word) == (0,)
 
 
 def plain_words(web, ties):

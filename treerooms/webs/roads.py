@@ -106,7 +106,7 @@ def shortened(web, point, road):
     """An equal road without a pinch: the plain one."""
     check_start(web, point)
     check_road(web, point, road)
-    return plain_walk(web, point, road)
+    return plain_walk(web, road)
 
 
 def is_shortened(web, point, road, value):
@@ -115,14 +115,14 @@ def is_shortened(web, point, road, value):
     check_road(web, point, road)
     if not is_walk(web, point, value) or pinch_places(web, value):
         return False
-    return plain_walk(web, point, value) == plain_walk(web, point, road)
+    return plain_walk(web, value) == plain_walk(web, road)
 
 
 def least_ties(web, point, road):
     """The number of the ties of an equal road without a pinch."""
     check_start(web, point)
     check_road(web, point, road)
-    return len(plain_walk(web, point, road)) // 2
+    return len(plain_walk(web, road)) // 2
 
 
 def exchange_row(web, point, one, other):

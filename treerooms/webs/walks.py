@@ -55,28 +55,27 @@ def is_pinch(web, road, place):
     return behind == -tie and web.side(behind).carries[stay] is not None
 
 
-def plain_walk(web, point, road):
-    """The plain road that is equal to a road from the point."""
+def plain_walk(web, road):
+    """The plain road that is equal to a road, wherever it begins."""
     done = []
-    at = point
     stay = road[0]
     for spot in range(1, len(road), 2):
         side = web.side(road[spot])
+        table = web.rooms[side.target].table
         least, rest = side.parts[stay]
-        at = side.target
         carried = side.carries[rest]
         if least == 0 and done and done[-1] == -road[spot]:
             done.pop()
-            carried = web.rooms[at].table[done.pop()][carried]
+            carried = table[done.pop()][carried]
         else:
             done.extend([least, road[spot]])
-        stay = web.rooms[at].table[carried][road[spot + 1]]
+        stay = table[carried][road[spot + 1]]
     return (*done, stay)
 
 
 def is_plain_walk(web, point, value):
     """Whether the value is a plain road from the point, with any number of ties."""
-    return is_walk(web, point, value) and plain_walk(web, point, value) == value
+    return is_walk(web, point, value) and plain_walk(web, value) == value
 
 
 def steps_behind(web, point, last):
