@@ -253,6 +253,26 @@ class PlainWords(unittest.TestCase):
             self.assertEqual(len(words), many, str(web))
         self.assertEqual(list(plain_words(Web.lone(WHOLE), 0)), [(member,) for member in range(24)])
 
+    def test_whole_lists_of_webs_with_loops(self):
+        self.assertEqual([list(plain_words(LOOP, ties)) for ties in range(5)], [
+            [(0,), (1,)],
+            [(0, -1, 0), (0, -1, 1), (0, 1, 0), (0, 1, 1)],
+            [(0, -1, 0, -1, 0), (0, -1, 0, -1, 1), (0, 1, 0, 1, 0), (0, 1, 0, 1, 1)],
+            [(0, -1, 0, -1, 0, -1, last) for last in (0, 1)] + [(0, 1, 0, 1, 0, 1, last) for last in (0, 1)],
+            [(0, -1, 0, -1, 0, -1, 0, -1, last) for last in (0, 1)] + [(0, 1, 0, 1, 0, 1, 0, 1, last) for last in (0, 1)],
+        ])
+        tailed = Web((TWO, TWO), ((0, 0, ((0, 0), (1, 1))), (1, 0, IDLE)))
+        numbers_of_words = []
+        for web in (LOOP, TURNS, LINE, Web((TWO,), ((0, 0, IDLE),)), tailed):
+            reading = Reading(web)
+            for ties in range(5):
+                wanted = [
+                    road for road in reading.all_roads(0, ties) if reading.end(0, road) == 0 and reading.is_plain(0, road)
+                ]
+                self.assertEqual(list(plain_words(web, ties)), sorted(wanted))
+                numbers_of_words.append(len(wanted))
+        self.assertEqual(numbers_of_words[15:20], [2, 8, 24, 72, 216])
+
     def test_they_are_a_generator(self):
         words = plain_words(FREE23, 2)
         self.assertIs(iter(words), words)

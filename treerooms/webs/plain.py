@@ -107,13 +107,26 @@ def point_behind(web, last):
 
 def beginnings_of_words(web, endings):
     """All plain words with the ties that `endings` tells, without their last stays."""
-    rows = [()]
+    beginnings = [()]
     for row in endings[-2::-1]:
-        longer = []
-        for beginning in rows:
-            last = beginning[-1] if beginning else 0
-            steps = steps_behind(web, point_behind(web, last), last)
-            # What cannot come back to the point 0 is not gone on with.
-            longer.extend([(*beginning, stay, tie) for stay, tie in steps if row[tie] > 0])
-        rows = longer
-    return rows
+        beginnings = beginnings_gone_on(web, beginnings, row)
+    return beginnings
+
+
+def beginnings_gone_on(web, beginnings, row):
+    """Beginnings of words with one stay and one tie more, from which a word can come back.
+
+    The row tells how many ways there are to end a word behind a tie.
+    """
+    return [
+        (*beginning, stay, tie)
+        for beginning in beginnings
+        for stay, tie in steps_on(web, beginning)
+        if row[tie] > 0
+    ]
+
+
+def steps_on(web, beginning):
+    """The pairs (stay, tie) that the beginning of a plain word can go on with, ascending."""
+    last = beginning[-1] if beginning else 0
+    return steps_behind(web, point_behind(web, last), last)

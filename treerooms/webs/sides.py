@@ -24,3 +24,12 @@ def sides_of(rooms, ties):
         sides[number] = Side(begin, end, rooms[begin], pairs)
         sides[-number] = Side(end, begin, rooms[end], back)
     return sides
+
+
+def beginnings_of(points, ties):
+    """For each point the directed ties that begin there, ascending."""
+    rows = [[] for _ in range(points)]
+    for number, (begin, end, _) in enumerate(ties, start=1):
+        rows[begin].append(number)
+        rows[end].append(-number)
+    return tuple([tuple(sorted(row)) for row in rows])

@@ -6,7 +6,7 @@ from treerooms.base.checks import check_number, is_count, is_within
 from treerooms.base.leading import is_pairs
 from treerooms.base.rooms import Room, check_member, check_room
 from treerooms.errors import InvalidNumber, InvalidOperation, InvalidWeb, Refused
-from treerooms.webs.sides import sides_of
+from treerooms.webs.sides import beginnings_of, sides_of
 
 MAX_POINTS = 5
 MAX_TIES = 6
@@ -22,6 +22,7 @@ class Web:
         self._rooms = rooms
         self._ties = ties
         self._sides = sides_of(rooms, ties)
+        self._beginnings = beginnings_of(len(rooms), ties)
 
     @classmethod
     def lone(cls, room):
@@ -80,7 +81,7 @@ class Web:
     def beginnings(self, point):
         """The directed ties that begin at a point, ascending."""
         check_point(self, point)
-        return tuple([tie for tie in sorted(self._sides) if self._sides[tie].source == point])
+        return self._beginnings[point]
 
     def __eq__(self, other):
         return isinstance(other, Web) and self._rooms == other._rooms and self._ties == other._ties
