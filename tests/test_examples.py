@@ -5,11 +5,12 @@ import unittest
 
 from treerooms import errors
 from treerooms.base import leading, rooms
-from treerooms.trees import tree
+from treerooms.trees import alike, lines, tree
 from treerooms.webs import plain, roads, webs
+from treerooms.worlds import common, cores, free, own, worlds
 
 EXAMPLES = os.path.join(os.path.dirname(os.path.abspath(__file__)), "examples.txt")
-MODULES = (errors, rooms, leading, webs, roads, plain, tree)
+MODULES = (errors, rooms, leading, webs, roads, plain, tree, lines, alike, worlds, cores, own, common, free)
 # How many examples that return or raise something each section has.
 MANY = {
     "Examples": 0,
@@ -19,6 +20,13 @@ MANY = {
     "Stage 4: roads, exchanges and pinches": 6,
     "Stage 5: plain roads, and words as a whole": 6,
     "Stage 6: the tree": 5,
+    "Stage 7: words that come round, and lines of long words": 6,
+    "Stage 8: words that are alike": 5,
+    "Stage 9: worlds": 6,
+    "Stage 10: stocks and their cores": 7,
+    "Stage 11: the web of rooms of a stock": 4,
+    "Stage 12: words common to two stocks": 3,
+    "Stage 13: what the fraction tells, and free stocks": 5,
 }
 
 

@@ -28,6 +28,36 @@ FUNCTIONS = {
         "is_place(web, value)", "place_of(web, road)", "point_of(web, place)", "neighbours(web, place)", "way(web, one, other)",
         "distance(web, one, other)", "moved(web, word, place)", "stayers(web, place)", "still_lots(web)", "is_still(web, word)",
     ),
+    "treerooms.trees.lines": (
+        "kind_of(web, word)", "is_kind(web, word, value)", "order_of(web, word)", "length_of(web, word)",
+        "moved_by(web, word, place)", "on_line(web, word, place)", "line(web, word, many)", "is_line(web, word, many, value)",
+        "common_place(web, one, other)", "is_common_place(web, one, other, value)",
+    ),
+    "treerooms.trees.alike": (
+        "member_classes(web)", "are_alike(web, one, other)", "between(web, one, other)", "is_between(web, one, other, value)",
+        "stays_between(web, point, member, other_point, other_member)",
+    ),
+    "treerooms.worlds.worlds": (
+        "world_fault(web, moves, pairs)", "is_full(world)", "is_free(world)", "hangs_together(world)",
+        "lots_of_spots(world, point)", "walked(world, point, spot, road)", "made_full(world)", "is_made_full(world, value)",
+        "nothing_paper(web, word)", "is_nothing_paper(web, word, value)",
+    ),
+    "treerooms.worlds.cores": (
+        "core(web, words)", "stock_has(web, words, word)", "stock_index(web, words)", "is_long_stock(web, words)",
+        "are_one_stock(web, one, other)", "are_alike_stocks(web, one, other)", "stock_between(web, one, other)",
+        "is_stock_between(web, one, other, value)",
+    ),
+    "treerooms.worlds.own": (
+        "own_web(web, words)", "stock_fraction(web, words)", "led_out(web, words, word)", "led_home(web, words, word)",
+        "free_paper(web, words)", "is_free_paper(web, words, value)",
+    ),
+    "treerooms.worlds.common": (
+        "common_words(web, one, other)", "is_common(web, one, other, value)", "common_index(web, one, other)",
+    ),
+    "treerooms.worlds.free": (
+        "words_number(web)", "ends(web)", "free_rank(web, many)", "free_world(web, many)", "is_free_world(web, many, value)",
+        "free_base(web, many)", "is_free_base(web, many, value)",
+    ),
 }
 CLASSES = {
     ("treerooms.base.rooms", "Room"): (
@@ -37,7 +67,15 @@ CLASSES = {
     ("treerooms.webs.webs", "Web"): (
         "lone(room)", "begin(tie)", "end(tie)", "lot(tie)", "carried(tie, member)", "beginnings(point)",
     ),
+    ("treerooms.worlds.worlds", "World"): (),
 }
+# What each class has beside its methods, and what it takes.
+OWN = {
+    "Room": ("__len__", "__iter__", "points", "members", "size"),
+    "Web": ("__len__", "rooms", "ties", "points", "size"),
+    "World": ("web", "moves", "pairs", "spots"),
+}
+TAKEN = {"Room": ("points", "makers"), "Web": ("rooms", "ties"), "World": ("web", "moves", "pairs")}
 ERRORS = (
     "TreeError", "InvalidRoom", "InvalidWeb", "InvalidRoad", "InvalidWorld", "InvalidTable", "InvalidName", "InvalidOperation",
     "ParseError", "InvalidNumber", "UnknownName", "TooMany", "Refused", "NothingToUndo",
@@ -69,8 +107,9 @@ class Interface(unittest.TestCase):
             for told in listed:
                 self.assertIn(told.split("(")[0], vars(kind))
                 self.check(getattr(kind, told.split("(")[0]), told)
-            for own in ("__eq__", "__len__", "__str__", "__init__"):
+            for own in ("__eq__", "__str__", "__init__") + OWN[name]:
                 self.assertIn(own, vars(kind))
+            self.assertEqual(names_of(kind.__init__), list(TAKEN[name]))
 
     def test_errors(self):
         module = importlib.import_module("treerooms.errors")

@@ -5,6 +5,8 @@ import os
 import unittest
 import warnings
 
+from tests import rules
+
 TOP = os.path.join(os.path.dirname(os.path.dirname(os.path.abspath(__file__))), "treerooms")
 LIBRARY = ("math", "heapq", "itertools", "collections")
 TAKE_LISTS = ("any", "all", "min", "max", "sum", "sorted")
@@ -60,6 +62,78 @@ class Language(unittest.TestCase):
             for node in ast.walk(ast.parse(text)):
                 if isinstance(node, ast.Call) and isinstance(node.func, ast.Name) and node.func.id in TAKE_LISTS:
                     self.assertFalse([part for part in node.args if isinstance(part, ast.GeneratorExp)], (path, node.lineno))
+
+    def test_what_is_walked_is_not_changed(self):
+        for path, text in files():
+            self.assertEqual(rules.changed_while_walked(ast.parse(text)), [], path)
+
+    def test_names_builtins_and_methods(self):
+        own = {
+            node.name for _, text in files() for node in ast.walk(ast.parse(text)) if isinstance(node, ast.FunctionDef)
+        }
+        for path, text in files():
+            tree = ast.parse(text)
+            self.assertEqual(rules.names_with_other_meanings(tree), [], path)
+            self.assertEqual(rules.unknown_builtins(tree), [], path)
+            self.assertEqual(rules.unknown_methods(tree, own), [], path)
+
+    def test_expressions(self):
+        for path, text in files():
+            tree = ast.parse(text)
+            self.assertEqual(rules.barred_expressions(tree), [], path)
+            self.assertEqual(rules.kept_iterators(tree), [], path)
+
+    def test_no_name_is_a_property_and_something_else(self):
+        trees = [ast.parse(text) for _, text in files()]
+        nodes = [node for tree in trees for node in ast.walk(tree)]
+        methods = [node for node in nodes if isinstance(node, ast.FunctionDef)]
+        read = {one.name for one in methods if [part for part in one.decorator_list if getattr(part, "id", "") == "property"]}
+        stored = {node.attr for node in nodes if isinstance(node, ast.Attribute) and isinstance(node.ctx, ast.Store)}
+        self.assertEqual(read & stored, set())
+        within = {part.name for node in nodes if isinstance(node, ast.ClassDef) for part in node.body if part in methods}
+        self.assertEqual((within - read) & stored, set())
+        generators = {one.name for one in methods if [part for part in ast.walk(one) if isinstance(part, (ast.Yield, ast.YieldFrom))]}
+        self.assertEqual(sorted(one.name for one in methods if one.name in generators), sorted(generators))
+
+    def test_no_file_imports_itself_by_others(self):
+        wanted = {}
+        for path, text in files():
+            name = os.path.relpath(path, os.path.dirname(TOP))[:-3].replace(os.sep, ".")
+            wanted[name] = {node.module for node in ast.walk(ast.parse(text)) if isinstance(node, ast.ImportFrom)}
+        while wanted:
+            free = [name for name in wanted if not wanted[name] & set(wanted)]
+            self.assertTrue(free, wanted)
+            for name in free:
+                del wanted[name]
+
+
+class Rules(unittest.TestCase):
+    """The rules themselves find what breaks them."""
+
+    def test_changes_of_what_is_walked(self):
+        for lines in (
+            "for x in xs: xs.append(x)", "for k, x in enumerate(xs): xs[k] = x", "for x in self.xs: self.xs.pop()",
+            "for x in xs.values(): del xs[x]", "for x in a or xs: xs.clear()", "for x in here.xs: there.xs.append(x)",
+            "for row in rows:\n  more = []\n  for x in old: more.append(x)\n  old = more", "ys = xs\nfor x in xs: ys.extend([x])",
+            "[xs.pop() for x in xs]",
+        ):
+            tree = ast.parse("def told(self, xs, rows, a, here, there):\n " + lines.replace("\n", "\n "))
+            self.assertTrue(rules.changed_while_walked(tree), lines)
+        for lines in ("for x in xs: ys.append(x)", "for x in list(xs): xs.pop()", "for x in xs[:]: xs.append(x)"):
+            self.assertEqual(rules.changed_while_walked(ast.parse("def told(xs, ys):\n " + lines)), [], lines)
+
+    def test_other_rules(self):
+        for rule, lines in (
+            (rules.names_with_other_meanings, "def told(hash): pass"), (rules.names_with_other_meanings, "def told(): next = 1"),
+            (rules.names_with_other_meanings, "from a.b import c\ndef told():\n for c in []: pass"),
+            (rules.unknown_builtins, "def told(): return hash(1)"), (rules.unknown_builtins, "def told(box): return box.register"),
+            (rules.barred_expressions, "def told(): return 1 / 2"), (rules.barred_expressions, "def told(): return 1.5"),
+            (rules.barred_expressions, "def told(a, b): return a is b"), (rules.barred_expressions, "def told(a):\n for x in set(a): pass"),
+            (rules.barred_expressions, "def told(): return '%'"), (rules.kept_iterators, "def told(a, b): return zip(a, b)"),
+            (rules.kept_iterators, "def told(a): return a.items()"),
+        ):
+            self.assertTrue(rule(ast.parse(lines)), lines)
+        self.assertTrue(rules.unknown_methods(ast.parse("def told(xs): xs.sort()"), ()))
 
 
 if __name__ == "__main__":

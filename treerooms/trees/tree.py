@@ -84,6 +84,11 @@ def way(web, one, other):
 def distance(web, one, other):
     """The number of the steps of the way."""
     check_places(web, one, other)
+    return steps_between(one, other)
+
+
+def steps_between(one, other):
+    """The distance of two places, of any length."""
     return (len(one) + len(other)) // 2 - shared_length(one, other)
 
 
@@ -92,6 +97,11 @@ def moved(web, word, place):
     check_web(web)
     check_word(web, word)
     check_place(web, place)
+    return place_moved(web, word, place)
+
+
+def place_moved(web, word, place):
+    """The place to which a word moves a place, both of any length."""
     return plain_walk(web, joined_walk(web, 0, word, place + (0,)))[:-1]
 
 

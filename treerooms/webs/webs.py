@@ -19,6 +19,9 @@ class Web:
         fault = web_fault(rooms, ties)
         if fault is not None:
             raise Refused(fault)
+        self._keep(rooms, ties)
+
+    def _keep(self, rooms, ties):
         self._rooms = rooms
         self._ties = ties
         self._sides = sides_of(rooms, ties)
@@ -91,6 +94,13 @@ class Web:
 
     def __str__(self):
         return f"web of {len(self._rooms)} rooms, {len(self._ties)} ties"
+
+
+class MadeWeb(Web):
+    """A web that was worked out here, so it has no fault, and any number of rooms and ties."""
+
+    def __init__(self, rooms, ties):
+        self._keep(rooms, ties)
 
 
 def check_web(value):

@@ -1,0 +1,1 @@
+"""Finite worlds of a web, and what they tell of its stocks of words."""
