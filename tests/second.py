@@ -1,18 +1,17 @@
 """Second ways to work out worlds and stocks, close to the words of the document.
 
-Nothing here rests on the modules of worlds; words are made plain by `plain`,
-and rooms and ties are read off a web by `Reading`.
+Nothing here rests on the modules of worlds; rooms and ties are read off a web
+by `Reading`.
 """
 
 import itertools
 import math
 from fractions import Fraction
 
-from treerooms.webs.plain import plain
-
 from tests.support import Reading
 
 READINGS = {}
+PARTS = {}
 
 
 def reading_of(web):
@@ -22,23 +21,33 @@ def reading_of(web):
     return READINGS[id(web)][1]
 
 
+def partings(web, tie):
+    """For each member g = r a ahead of a tie the pair of r and what a is carried to."""
+    reading = reading_of(web)
+    begin, _, pairs = reading.sides[tie]
+    table, parts = reading.tables[begin], {}
+    for member in range(web.rooms[begin].size):
+        least = min(table[member][a] for a in pairs)
+        parts[member] = (least, next(pairs[a] for a in pairs if table[least][a] == member))
+    return parts
+
+
 def any_plain(web, road):
-    """The plain form of a road from the point 0 with any number of ties."""
-    done = road[:1]
+    """The plain form of a road from the point 0 with any number of ties, found from the left as in [5.2]."""
+    reading = reading_of(web)
+    done, stay = [], road[0]
     for at in range(1, len(road), 2):
-        # Made plain in short parts, each of which is a road with few ties.
-        done = plain_step(web, done, road[at:at + 2])
-    return done
-
-
-def plain_step(web, done, step):
-    """The plain form of a plain road with one tie and one stay more."""
-    if len(done) < 100:
-        return plain(web, 0, done + step)
-    # Far from its end a plain road stays as it is.
-    keep = len(done) - 41
-    begin = reading_of(web).stops(0, done[:keep] + (0,))[-1]
-    return done[:keep] + plain(web, begin, done[keep:] + step)
+        tie = road[at]
+        if (id(web), tie) not in PARTS:
+            PARTS[id(web), tie] = partings(web, tie)
+        least, carried = PARTS[id(web), tie][stay]
+        table = reading.tables[reading.sides[tie][1]]
+        if least == 0 and done and done[-1][1] == -tie:
+            carried = table[done.pop()[0]][carried]
+        else:
+            done.append((least, tie))
+        stay = table[carried][road[at + 1]]
+    return tuple(entry for pair in done for entry in pair) + (stay,)
 
 
 def joined(web, *roads):
@@ -330,3 +339,87 @@ def stock_words(chance, web, many, ties):
             word = turned(web, chance.choice(words), word)
         words.append(any_plain(web, word))
     return tuple(word for word in words if len(word) <= 121)
+
+
+def block_of(web, number, moves, one, other):
+    """The pairs of spots that follow from a pair at a tie."""
+    begin, end, pairs = web.ties[number - 1]
+    return {(moves[begin][a][one], moves[end][b][other]) for a, b in pairs}
+
+
+def some_pairs(chance, web, number, moves, tries):
+    """Pairs of spots at a tie that go along with its pairs, ascending."""
+    begin, end, _ = web.ties[number - 1]
+    found = set()
+    for _ in range(tries):
+        if not moves[begin][0] or not moves[end][0]:
+            break
+        block = block_of(web, number, moves, chance.choice(moves[begin][0]), chance.choice(moves[end][0]))
+        whole = found | block
+        if len({one for one, _ in whole}) == len(whole) == len({other for _, other in whole}):
+            found = whole
+    return tuple(sorted(found))
+
+
+def some_world(chance, web, most, tries=12):
+    """Moves and pairs of a world with at most so many spots at each point."""
+    moves = tuple(some_ways(chance, room, chance.randrange(most + 1)) for room in web.rooms)
+    return moves, tuple(some_pairs(chance, web, number, moves, tries) for number in range(1, web.size + 1))
+
+
+def free_ways(room, many):
+    """Free lots of a room one after the other, with so many spots."""
+    return tuple(
+        tuple(start + room.product(one, member) for start in range(0, many, room.size) for one in range(room.size))
+        for member in range(room.size)
+    )
+
+
+def full_pairs(chance, web, number, moves):
+    """Pairs of all spots at a tie of a free world with equally many spots at each point, ascending."""
+    begin, end, _ = web.ties[number - 1]
+    ones, others = list(moves[begin][0]), list(moves[end][0])
+    found = set()
+    while ones:
+        found |= block_of(web, number, moves, chance.choice(ones), chance.choice(others))
+        ones = [spot for spot in ones if spot not in {one for one, _ in found}]
+        others = [spot for spot in others if spot not in {other for _, other in found}]
+    return tuple(sorted(found))
+
+
+def full_free_parts(chance, web, many):
+    """Moves and pairs of a full free world with so many spots at each point."""
+    moves = tuple(free_ways(room, many) for room in web.rooms)
+    return moves, tuple(full_pairs(chance, web, number, moves) for number in range(1, web.size + 1))
+
+
+def is_full_of(web, moves, pairs):
+    """Whether each spot of both ends of each tie is in a pair."""
+    return all(
+        {one for one, _ in row} == set(moves[begin][0]) and {other for _, other in row} == set(moves[end][0])
+        for (begin, end, _), row in zip(web.ties, pairs)
+    )
+
+
+def is_free_of(moves):
+    """Whether no member but 0 leaves a spot."""
+    return all(row[spot] != spot for rows in moves for row in rows[1:] for spot in rows[0])
+
+
+def pieces(web, moves, pairs):
+    """The spots (point, spot) in parts that hang together."""
+    figure = {(point, spot): [(point, row[spot]) for row in rows] for point, rows in enumerate(moves) for spot in rows[0]}
+    for (begin, end, _), row in zip(web.ties, pairs):
+        for one, other in row:
+            figure[begin, one].append((end, other))
+            figure[end, other].append((begin, one))
+    found = []
+    while figure:
+        part, waiting = set(), [min(figure)]
+        while waiting:
+            spot = waiting.pop()
+            if spot not in part:
+                part.add(spot)
+                waiting += figure.pop(spot)
+        found.append(part)
+    return found
