@@ -423,3 +423,91 @@ def pieces(web, moves, pairs):
                 waiting += figure.pop(spot)
         found.append(part)
     return found
+
+
+def tree_roads(web):
+    """For each point a road there from the point 0 with the stay 0 everywhere."""
+    reading, roads = reading_of(web), {0: (0,)}
+    for _ in range(web.points):
+        for point in list(roads):
+            for tie in reading.beginnings(point):
+                roads.setdefault(reading.sides[tie][1], roads[point] + (tie, 0))
+    return roads
+
+
+def all_makers(web):
+    """Words that make all words: members of all rooms, and one round for each tie."""
+    roads = tree_roads(web)
+    words = [joined(web, roads[point], (member,), back(web, roads[point])) for point in roads for member in range(1, web.rooms[point].size)]
+    for tie, (begin, end, _) in sorted(reading_of(web).sides.items()):
+        words.append(joined(web, roads[begin], (0, tie, 0), back(web, roads[end])))
+    return sorted({any_plain(web, word) for word in words} - {(0,)})
+
+
+def sets_of_words(web, has, most):
+    """One word for each set w s, found from the words that make all words; None if they are more than `most`.
+
+    `has` tells whether a plain word is in the stock.
+    """
+    found, makers = [(0,)], all_makers(web)
+    for word in found:
+        for maker in makers:
+            more = any_plain(web, joined(web, maker, word))
+            if not any(has(any_plain(web, joined(web, back(web, one), more))) for one in found):
+                found.append(more)
+                if len(found) > most:
+                    return None
+    return found
+
+
+def stock_makers(world):
+    """Words that make the stock of those that lead the spot 0 of the point 0 of a world to itself.
+
+    They go around by each pair that is not used to meet a spot first, and by each member.
+    """
+    web = world.web
+    figure, roads = figure_of(world), {(0, 0): (0,)}
+    waiting, words = [(0, 0)], set()
+    for spot in waiting:
+        steps = [((member,), goal) for member, goal in enumerate(figure.moves[spot])]
+        for tie in reading_of(web).beginnings(spot[0]):
+            if spot in figure.pairs[tie]:
+                steps.append(((0, tie, 0), figure.pairs[tie][spot]))
+        for step, goal in steps:
+            road = any_plain(web, joined(web, roads[spot], step))
+            if goal not in roads:
+                roads[goal] = road
+                waiting.append(goal)
+            else:
+                words.add(any_plain(web, joined(web, road, back(web, roads[goal]))))
+    return sorted(words - {(0,)}, key=lambda word: (len(word), word))
+
+
+def few_stock_makers(world):
+    """At most five words with at most 60 ties that make the stock of a world, found by naive cores; None if none are found."""
+    chosen, wanted = [], None
+    makers = [word for word in stock_makers(world) if len(word) <= 121]
+    goal = figure_of(world).pared((0, 0)).numbered((0, 0))
+    for word in makers:
+        if len(chosen) == 5:
+            return None
+        parts = core_parts(world.web, chosen + [word])
+        if parts != wanted:
+            chosen.append(word)
+            wanted = parts
+        if parts == goal:
+            return tuple(chosen)
+    return () if goal == core_parts(world.web, ()) else None
+
+
+def finite_stock(web, words, most=24):
+    """All words of a stock, None if they are more than `most`."""
+    found = [(0,)]
+    for one in found:
+        for word in words:
+            more = any_plain(web, joined(web, one, word))
+            if more not in found:
+                found.append(more)
+                if len(found) > most:
+                    return None
+    return found
