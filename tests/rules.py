@@ -185,3 +185,33 @@ def kept_iterators(tree):
             if called(over) not in TAKE_AT_ONCE:
                 places.append(node.lineno)
     return places
+
+
+def assigned_names(nodes):
+    """The names that are assigned in these parts, those of comprehensions left out."""
+    found, waiting = set(), list(nodes)
+    while waiting:
+        node = waiting.pop()
+        if isinstance(node, (ast.ListComp, ast.SetComp, ast.DictComp, ast.GeneratorExp)):
+            continue
+        if isinstance(node, ast.Name) and isinstance(node.ctx, ast.Store):
+            found.add(node.id)
+        if isinstance(node, ast.arg):
+            found.add(node.arg)
+        waiting += ast.iter_child_nodes(node)
+    return found
+
+
+def shadowing_comprehensions(tree):
+    """L7: within another comprehension no variable is a name that is assigned further out."""
+    places = []
+    kinds = (ast.ListComp, ast.SetComp, ast.DictComp, ast.GeneratorExp)
+    for function in functions(tree):
+        names = assigned_names([function.args] + function.body)
+        for outer in [node for node in ast.walk(function) if isinstance(node, kinds)]:
+            outer_names = names | {part.id for gen in outer.generators for part in ast.walk(gen.target) if isinstance(part, ast.Name)}
+            for inner in [node for node in ast.walk(outer) if isinstance(node, kinds) and node is not outer]:
+                own = {part.id for gen in inner.generators for part in ast.walk(gen.target) if isinstance(part, ast.Name)}
+                if (own & outer_names) - {"_"}:
+                    places.append(inner.lineno)
+    return places

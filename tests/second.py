@@ -133,7 +133,7 @@ class Cloth:
                     changed |= self.unite(goal, other)
 
     def walk(self, form):
-        spot, point = self.led(0, form[0]), 0
+        spot = self.led(0, form[0])
         for at in range(1, len(form), 2):
             goal = self.partner(form[at], spot)
             if goal is None:

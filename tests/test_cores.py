@@ -15,7 +15,7 @@ from treerooms.worlds.worlds import World, hangs_together, is_full
 
 from tests.second import (
     Figure, any_plain, back, core_parts, few_stock_makers, figure_of, finite_stock, fraction_of, full_free_parts, joined, least_multiple, pieces,
-    reading_of, sets_of_words, some_world, stock_words, turned, walk, winding_word,
+    reading_of, sets_of_words, stock_words, turned, walk, winding_word,
 )
 from tests.support import (
     DEEP, DOWN, EIGHT, FLAT, FOUR, FREE23, IDLE, JUDGED, LINE, LOOP, SHARED, SIX, STAR, THREE, TURNS, TWO, WHOLE, WIDE,

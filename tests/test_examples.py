@@ -5,12 +5,13 @@ import unittest
 
 from treerooms import errors
 from treerooms.base import leading, rooms
-from treerooms.trees import alike, lines, tree
+from treerooms.trees import alike, tree
+from treerooms.trees import lines as line_words
 from treerooms.webs import plain, roads, webs
 from treerooms.worlds import common, cores, free, own, worlds
 
 EXAMPLES = os.path.join(os.path.dirname(os.path.abspath(__file__)), "examples.txt")
-MODULES = (errors, rooms, leading, webs, roads, plain, tree, lines, alike, worlds, cores, own, common, free)
+MODULES = (errors, rooms, leading, webs, roads, plain, tree, line_words, alike, worlds, cores, own, common, free)
 # How many examples that return or raise something each section has.
 MANY = {
     "Examples": 0,

@@ -82,6 +82,7 @@ class Language(unittest.TestCase):
             tree = ast.parse(text)
             self.assertEqual(rules.barred_expressions(tree), [], path)
             self.assertEqual(rules.kept_iterators(tree), [], path)
+            self.assertEqual(rules.shadowing_comprehensions(tree), [], path)
 
     def test_no_name_is_a_property_and_something_else(self):
         trees = [ast.parse(text) for _, text in files()]
@@ -131,6 +132,8 @@ class Rules(unittest.TestCase):
             (rules.barred_expressions, "def told(a, b): return a is b"), (rules.barred_expressions, "def told(a):\n for x in set(a): pass"),
             (rules.barred_expressions, "def told(): return '%'"), (rules.kept_iterators, "def told(a, b): return zip(a, b)"),
             (rules.kept_iterators, "def told(a): return a.items()"),
+            (rules.shadowing_comprehensions, "def told(a, b): return [[b for b in c] for c in a]"),
+            (rules.shadowing_comprehensions, "def told(a): return [[c for c in c] for c in a]"),
         ):
             self.assertTrue(rule(ast.parse(lines)), lines)
         self.assertTrue(rules.unknown_methods(ast.parse("def told(xs): xs.sort()"), ()))

@@ -23,11 +23,11 @@ from tests.second import (
     any_plain, back, core_parts, figure_of, fraction_of, joined, reading_of, stock_words, turned, walk, winding_word,
 )
 from tests.support import (
-    DOWN, FLAT, FOUR, FREE23, IDLE, JUDGED, LINE, LOOP, SHARED, SIX, THREE, TURNS, TWO, WEBS, WHOLE, Reading, chances, check_arguments,
+    FOUR, FREE23, IDLE, JUDGED, LINE, SHARED, SIX, TURNS, TWO, Reading, chances, check_arguments,
     check_error, check_judged, line_road, roads_wrong, webs_wrong,
 )
 from tests.test_alike import MORE
-from tests.test_cores import LARGE, LESS, NO_STOCKS, SIXTY, STEP, TURN, stocks_wrong
+from tests.test_cores import LARGE, LESS, SIXTY, STEP, TURN, stocks_wrong
 from tests.test_lines import powers_to_nothing
 from tests.test_tree import NO_WORDS
 

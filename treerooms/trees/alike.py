@@ -4,16 +4,10 @@ from treerooms.base.lots import turned_member
 from treerooms.base.rooms import check_member
 from treerooms.trees.papers import led_word, paper_of
 from treerooms.trees.rotations import road_between
-from treerooms.webs.roads import check_start, check_word
-from treerooms.webs.walks import is_walk, joined_walk, plain_walk, walk_back, walk_end
+from treerooms.webs.plain import check_words
+from treerooms.webs.roads import check_start
+from treerooms.webs.walks import is_any_word, joined_walk, plain_walk, walk_back
 from treerooms.webs.webs import check_web
-
-
-def check_two_words(web, one, other):
-    """Refuse what is no web, and then the first one of both that is no word."""
-    check_web(web)
-    check_word(web, one)
-    check_word(web, other)
 
 
 def steps_from(web, point, member):
@@ -99,19 +93,17 @@ def word_between(web, one, other):
 
 def are_alike(web, one, other):
     """Whether two words are alike."""
-    check_two_words(web, one, other)
+    check_words(web, one, other)
     return word_between(web, one, other) is not None
 
 
 def between(web, one, other):
     """A word c for which c `one` c^-1 is equal to `other`, None if they are not alike."""
-    check_two_words(web, one, other)
+    check_words(web, one, other)
     return word_between(web, one, other)
 
 
 def is_between(web, one, other, value):
     """Whether the value is a word, of any length, by which the words are alike."""
-    check_two_words(web, one, other)
-    if not is_walk(web, 0, value) or walk_end(web, 0, value) != 0:
-        return False
-    return led_word(web, value, one) == plain_walk(web, other)
+    check_words(web, one, other)
+    return is_any_word(web, value) and led_word(web, value, one) == plain_walk(web, other)

@@ -13,6 +13,11 @@ def is_short_walk(web, point, value):
     return is_walk(web, point, value) and len(value) <= 2 * MAX_TIES + 1
 
 
+def is_short_word(web, value):
+    """Whether the value is a word with at most 60 ties."""
+    return is_short_walk(web, 0, value) and walk_end(web, 0, value) == 0
+
+
 def check_road(web, point, value):
     """Refuse what is no road from the point with at most 60 ties."""
     if not is_short_walk(web, point, value):
@@ -21,9 +26,8 @@ def check_road(web, point, value):
 
 def check_word(web, value):
     """Refuse what is no word with at most 60 ties."""
-    check_road(web, 0, value)
-    if walk_end(web, 0, value) != 0:
-        raise InvalidRoad("a word ends at the point 0")
+    if not is_short_word(web, value):
+        raise InvalidRoad("this is no word with at most 60 ties")
 
 
 def check_start(web, point):
@@ -41,7 +45,7 @@ def is_road(web, point, value):
 def is_word(web, value):
     """Whether the value is a word with at most 60 ties."""
     check_web(web)
-    return is_short_walk(web, 0, value) and walk_end(web, 0, value) == 0
+    return is_short_word(web, value)
 
 
 def road_end(web, point, road):

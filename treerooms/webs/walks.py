@@ -17,6 +17,11 @@ def is_walk(web, point, value):
     return is_stay(web, at, value[-1])
 
 
+def is_any_word(web, value):
+    """Whether the value is a word, with any number of ties."""
+    return is_walk(web, 0, value) and walk_end(web, 0, value) == 0
+
+
 def is_stay(web, point, value):
     """Whether the value is a member of the room at the point."""
     return is_within(value, 0, web.rooms[point].size - 1)

@@ -19,9 +19,9 @@ class Web:
         fault = web_fault(rooms, ties)
         if fault is not None:
             raise Refused(fault)
-        self._keep(rooms, ties)
+        self._keep_rooms(rooms, ties)
 
-    def _keep(self, rooms, ties):
+    def _keep_rooms(self, rooms, ties):
         self._rooms = rooms
         self._ties = ties
         self._sides = sides_of(rooms, ties)
@@ -100,7 +100,7 @@ class MadeWeb(Web):
     """A web that was worked out here, so it has no fault, and any number of rooms and ties."""
 
     def __init__(self, rooms, ties):
-        self._keep(rooms, ties)
+        self._keep_rooms(rooms, ties)
 
 
 def check_web(value):

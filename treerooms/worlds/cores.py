@@ -2,11 +2,11 @@
 
 from treerooms.errors import InvalidRoad, Refused, TooMany
 from treerooms.trees.papers import led_word
-from treerooms.webs.roads import check_word, is_short_walk
-from treerooms.webs.walks import plain_walk, walk_back, walk_end
+from treerooms.webs.roads import check_word, is_short_word
+from treerooms.webs.walks import is_any_word, plain_walk, walk_back
 from treerooms.webs.webs import check_web
 from treerooms.worlds.matching import Rest, word_between_rests
-from treerooms.worlds.stocks import core_world, index_of, is_any_word, is_walked_around
+from treerooms.worlds.stocks import core_world, index_of, is_walked_around
 
 MAX_BROUGHT = 2000
 
@@ -18,7 +18,7 @@ def check_words(web, value):
     """Refuse what is no tuple of at most five words with at most 60 ties each."""
     if not isinstance(value, tuple) or len(value) > MOST_WORDS:
         raise InvalidRoad("words are a tuple of at most five words")
-    if not all([is_short_walk(web, 0, word) and walk_end(web, 0, word) == 0 for word in value]):
+    if not all([is_short_word(web, word) for word in value]):
         raise InvalidRoad("words are a tuple of words with at most 60 ties")
 
 

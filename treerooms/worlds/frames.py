@@ -61,15 +61,14 @@ class Frame:
 
     def _add_blocks(self, number, tie):
         begin, end, pairs = tie
-        one, other = self.world.moves[begin], self.world.moves[end]
+        row = self.world.moves[begin]
         for spot, goal in self.world.pairs[number - 1]:
             if (number, spot) not in self.block_at:
                 many = 0
                 for member, carried in pairs:
-                    key = (number, one[member][spot])
-                    if one[member][spot] == spot:
+                    if row[member][spot] == spot:
                         many += 1
-                    self.block_at.setdefault(key, (len(self.blocks), member, carried))
+                    self.block_at.setdefault((number, row[member][spot]), (len(self.blocks), member, carried))
                 ends = (self.homes[begin][spot], self.homes[end][goal])
                 leads = (self.leads[begin][spot], self.leads[end][goal])
                 self.blocks.append(Block(number, (spot, goal), ends, leads, many))

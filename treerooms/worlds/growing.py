@@ -31,12 +31,12 @@ class Growth:
         """Pair two spots at a directed tie, and what follows."""
         side = self.ground.side(tie)
         for member in side.within:
-            one = self.led(side.source, spot, member)
-            two = self.led(side.target, goal, side.carries[member])
+            one = self.spot_led(side.source, spot, member)
+            two = self.spot_led(side.target, goal, side.carries[member])
             self.goals[tie][one] = two
             self.goals[-tie][two] = one
 
-    def led(self, point, spot, member):
+    def spot_led(self, point, spot, member):
         """The spot to which a member moves a spot."""
         room = self.ground.rooms[point]
         within = spot % room.size

@@ -4,7 +4,7 @@ from treerooms.base.lots import few_makers
 from treerooms.base.rooms import Room
 from treerooms.webs.walks import plain_walk
 from treerooms.webs.webs import MadeWeb
-from treerooms.worlds.frames import Frame, step_along
+from treerooms.worlds.frames import step_along
 
 
 def rooms_of_lots(web, frame):

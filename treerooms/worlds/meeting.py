@@ -56,7 +56,7 @@ def met_world(web, spots, begin, most):
         tuple([tuple([numbers[row[member]] for row in rows]) for member in range(room.size)])
         for room, rows in zip(web.rooms, meeting.rows)
     ])
-    pairs = tuple([tuple(sorted([(numbers[spot], numbers[goal]) for spot, goal in row])) for row in meeting.links])
+    pairs = tuple([tuple(sorted([(numbers[one], numbers[other]) for one, other in links])) for links in meeting.links])
     return MadeWorld(web, moves, pairs)
 
 

@@ -3,13 +3,13 @@
 from treerooms.errors import InvalidOperation
 from treerooms.trees.papers import paper_of
 from treerooms.webs.roads import check_word
-from treerooms.webs.walks import plain_walk
+from treerooms.webs.walks import is_any_word, plain_walk
 from treerooms.webs.webs import fraction
 from treerooms.worlds.cores import check_stock, stock_core
 from treerooms.worlds.frames import Frame, closing_words, roads_to_lots, staying_word
 from treerooms.worlds.homes import web_of_frame, word_led_home, word_led_out
 from treerooms.worlds.stocks import (
-    are_any_words, do_words_make, has_one_member_rooms, is_any_word, is_walked_around, rank_of,
+    are_any_words, do_words_make, has_one_member_rooms, is_walked_around, rank_of,
 )
 
 

@@ -1,6 +1,6 @@
 """Stocks as the words that are walked around in a world, worked out without checking what is passed."""
 
-from treerooms.webs.walks import is_walk, plain_walk, walk_end
+from treerooms.webs.walks import is_any_word, plain_walk
 from treerooms.webs.webs import fraction
 from treerooms.worlds.folding import folded
 from treerooms.worlds.frames import Frame, kept_lots
@@ -26,11 +26,6 @@ def pared(world):
 def is_walked_around(world, form):
     """Whether a plain word is walked from the begin to the begin."""
     return walk_of_spot(world, 0, 0, form) == (0, 0)
-
-
-def is_any_word(web, value):
-    """Whether the value is a word, with any number of ties."""
-    return is_walk(web, 0, value) and walk_end(web, 0, value) == 0
 
 
 def are_any_words(web, value):

@@ -21,9 +21,9 @@ class World:
         fault = world_fault(web, moves, pairs)
         if fault is not None:
             raise Refused(fault)
-        self._keep(web, moves, pairs)
+        self._keep_spots(web, moves, pairs)
 
-    def _keep(self, web, moves, pairs):
+    def _keep_spots(self, web, moves, pairs):
         self._web = web
         self._moves = moves
         self._pairs = pairs
@@ -66,7 +66,7 @@ class MadeWorld(World):
     """A world that was worked out here, so it has no fault, and any number of spots."""
 
     def __init__(self, web, moves, pairs):
-        self._keep(web, moves, pairs)
+        self._keep_spots(web, moves, pairs)
 
 
 def check_world(value):
