@@ -36,7 +36,9 @@ class Folding:
         while self.heads[found] != found:
             found = self.heads[found]
         while self.heads[spot] != found:
-            self.heads[spot], spot = found, self.heads[spot]
+            above = self.heads[spot]
+            self.heads[spot] = found
+            spot = above
         return found
 
     def led(self, spot, member):

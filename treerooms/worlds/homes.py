@@ -67,7 +67,7 @@ def word_led_home(frame, own, form):
     web = frame.world.web
     road = []
     # The word is walked; what it takes up to here is the road, and then the member `rest` from a lot's least spot.
-    home, point, spot, rest = 0, 0, 0, form[0]
+    home, point, rest = 0, 0, form[0]
     for at in range(1, len(form), 2):
         side = web.side(form[at])
         spot = frame.world.moves[point][rest][frame.lots[home].least]
