@@ -174,10 +174,11 @@ def is_made_full(world, value):
 
 
 def is_full_free_world(web, value):
-    """Whether the value is a full free world of the web with at most 400 spots, equally many at each point."""
+    """Whether the value is a full free world of the web with at most 400 spots."""
     if not isinstance(value, World) or value.web != web or sum(value.spots) > MAX_SPOTS:
         return False
-    return len(set(value.spots)) == 1 and has_all_pairs(value) and has_free_moves(value)
+    # All points hang together by ties, so that a full world has equally many spots at each point.
+    return has_all_pairs(value) and has_free_moves(value)
 
 
 def has_all_moves(world, other):
