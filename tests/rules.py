@@ -11,7 +11,7 @@ KNOWN = (
 ).split()
 METHODS = (
     "append clear copy count endswith extend find get index insert isalnum isalpha isdigit islower isspace isupper items join keys "
-    "ljust lower lstrip partition pop remove replace reverse rfind rjust rpartition rsplit rstrip setdefault split splitlines "
+    "ljust lower lstrip isascii partition pop remove replace reverse rfind rjust rpartition rsplit rstrip setdefault split splitlines "
     "startswith strip update upper values zfill bit_length add discard __init__"
 ).split()
 CHANGING = ("append", "extend", "insert", "pop", "remove", "clear", "reverse", "sort", "update", "setdefault", "add", "discard")

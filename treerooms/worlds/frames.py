@@ -16,7 +16,7 @@ class Lot:
 class Block:
     """A lot of pairs of a tie, told by its least pair; it goes from a lot to a lot.
 
-    `ahead` and `behind` are the least members that lead the least spots of
+    `spot_lead` and `goal_lead` are the least members that lead the least spots of
     both lots to the spots of the least pair, `many` members of the tie leave it.
     """
 
@@ -24,7 +24,7 @@ class Block:
         self.tie = tie
         self.spot, self.goal = least_pair
         self.source, self.target = ends
-        self.ahead, self.behind = leads
+        self.spot_lead, self.goal_lead = leads
         self.many = many
 
 
@@ -121,8 +121,8 @@ def step_along(web, frame, number, way):
     block = frame.blocks[number]
     begin, end, _ = web.ties[block.tie - 1]
     if way == 1:
-        return (block.ahead, block.tie, web.rooms[end].contraries[block.behind])
-    return (block.behind, -block.tie, web.rooms[begin].contraries[block.ahead])
+        return (block.spot_lead, block.tie, web.rooms[end].contraries[block.goal_lead])
+    return (block.goal_lead, -block.tie, web.rooms[begin].contraries[block.spot_lead])
 
 
 def roads_to_lots(web, frame):

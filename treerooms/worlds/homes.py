@@ -34,7 +34,7 @@ def tie_of_block(web, frame, block):
     row = frame.world.moves[begin]
     staying = [(member, carried) for member, carried in pairs if row[member][block.spot] == block.spot]
     own_pairs = [
-        (number_turned(web, source, member, block.ahead), number_turned(web, target, carried, block.behind))
+        (number_turned(web, source, member, block.spot_lead), number_turned(web, target, carried, block.goal_lead))
         for member, carried in staying
     ]
     return block.source, block.target, tuple(sorted(own_pairs))
@@ -74,7 +74,7 @@ def word_led_home(frame, own, form):
         goal = frame.world.paired(form[at], spot)
         number, member, carried = frame.block_of(form[at], spot, goal)
         block = frame.blocks[number]
-        ahead, behind = (block.ahead, block.behind) if form[at] > 0 else (block.behind, block.ahead)
+        ahead, behind = (block.spot_lead, block.goal_lead) if form[at] > 0 else (block.goal_lead, block.spot_lead)
         room = web.rooms[point]
         # From the block's least pair the pair (member, carried) leads to the one that is walked.
         lead = room.table[ahead][member]

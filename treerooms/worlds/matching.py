@@ -9,14 +9,14 @@ class Rest:
 
     def __init__(self, core):
         self.frame = Frame(core)
-        self.kept = kept_lots(self.frame, None)
+        self.remain = kept_lots(self.frame, None)
         numbers = range(len(self.frame.lots))
-        self.ends = [kept_ends(self.frame, self.kept, number) for number in numbers]
+        self.ends = [kept_ends(self.frame, self.remain, number) for number in numbers]
         self.shapes = [self._shape(number) for number in numbers]
 
     def _shape(self, number):
         """What two lots that are matched have in common, None for one that is left out."""
-        if not self.kept[number]:
+        if not self.remain[number]:
             return None
         lot = self.frame.lots[number]
         ends = [(way * self.frame.blocks[block].tie, self.frame.blocks[block].many) for block, way in self.ends[number]]
@@ -24,7 +24,7 @@ class Rest:
 
     def is_long(self):
         """Whether pairs are left."""
-        return is_any_block_kept(self.frame, self.kept)
+        return is_any_block_kept(self.frame, self.remain)
 
     def lots_by_shape(self):
         """The numbers of the lots that are left, by their shapes."""
@@ -109,7 +109,7 @@ def images_at_ends(one, other, number, spot):
     rows = other.frame.world.moves[lot.point]
     for block_number, way in one.ends[number]:
         block = one.frame.blocks[block_number]
-        ahead, behind = (block.ahead, block.behind) if way == 1 else (block.behind, block.ahead)
+        ahead, behind = (block.spot_lead, block.goal_lead) if way == 1 else (block.goal_lead, block.spot_lead)
         image = other.frame.world.paired(way * block.tie, rows[ahead][spot])
         found.append((end_of_line(block, way), behind, image))
     return found

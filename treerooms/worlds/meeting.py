@@ -65,7 +65,7 @@ class KeptSpots:
 
     def __init__(self, frame, kept):
         self.frame = frame
-        self.kept = kept
+        self.remain = kept
 
     def led(self, spot, member):
         """The spot to which a member moves a spot."""
@@ -77,7 +77,7 @@ class KeptSpots:
         world = self.frame.world
         goal = world.paired(tie, spot[1])
         point = world.web.side(tie).target
-        if goal is None or not self.kept[self.frame.homes[point][goal]]:
+        if goal is None or not self.remain[self.frame.homes[point][goal]]:
             return None
         return point, goal
 

@@ -1,0 +1,1 @@
+"""A desk of words by names, and sayings that stay true there."""

@@ -1,0 +1,1 @@
+"""Changes of webs that keep the words, slides, and webs that are kin."""

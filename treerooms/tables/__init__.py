@@ -1,0 +1,1 @@
+"""Tables of four integers."""

@@ -1,0 +1,1 @@
+"""Rooms, webs, roads and worlds as texts."""
