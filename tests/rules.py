@@ -164,7 +164,8 @@ def barred_expressions(tree):
         if isinstance(node, ast.Constant) and isinstance(node.value, str) and "%" in node.value:
             bad = True
         if isinstance(node, ast.Compare) and any(isinstance(sign, (ast.Is, ast.IsNot)) for sign in node.ops):
-            bad = bad or not isinstance(node.comparators[-1], ast.Constant)
+            kind = called(node.left) == "type" and isinstance(node.comparators[0], ast.Name) and len(node.ops) == 1
+            bad = bad or not kind and not isinstance(node.comparators[-1], ast.Constant)
         if isinstance(node, ast.SetComp) or called(node) in ("set", "frozenset"):
             bad = bad or called(up.get(node)) not in ("sorted", "len") or called(node) == "frozenset"
         if bad:

@@ -5,13 +5,21 @@ import unittest
 
 from treerooms import errors
 from treerooms.base import leading, rooms
+from treerooms.counts import forms, stocks, sums
+from treerooms.desk import desk as desks
+from treerooms.kin import changes, slides
+from treerooms.tables import fours
+from treerooms.text import texts
 from treerooms.trees import alike, tree
 from treerooms.trees import lines as line_words
 from treerooms.webs import plain, roads, webs
 from treerooms.worlds import common, cores, free, own, worlds
 
 EXAMPLES = os.path.join(os.path.dirname(os.path.abspath(__file__)), "examples.txt")
-MODULES = (errors, rooms, leading, webs, roads, plain, tree, line_words, alike, worlds, cores, own, common, free)
+MODULES = (
+    errors, rooms, leading, webs, roads, plain, tree, line_words, alike, worlds, cores, own, common, free, changes, slides, stocks, forms,
+    sums, fours, desks, texts,
+)
 # How many examples that return or raise something each section has.
 MANY = {
     "Examples": 0,
@@ -28,6 +36,13 @@ MANY = {
     "Stage 11: the web of rooms of a stock": 4,
     "Stage 12: words common to two stocks": 3,
     "Stage 13: what the fraction tells, and free stocks": 5,
+    "Stage 14: changes of webs that keep the words": 4,
+    "Stage 15: slides, and webs that are kin": 5,
+    "Stage 16: how many worlds and stocks there are": 5,
+    "Stage 17: plain words by ties, and far powers": 5,
+    "Stage 18: sums of words, and renamings that keep the web": 4,
+    "Stage 19: tables of four integers": 4,
+    "Stage 20: a desk of words": 9,
 }
 
 

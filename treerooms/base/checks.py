@@ -8,12 +8,12 @@ TOO_LONG = 10 ** 60
 
 def is_integer(value):
     """Whether the value is an integer; True and False are none."""
-    return isinstance(value, int) and not isinstance(value, bool)
+    return type(value) is int
 
 
 def is_within(value, least, most):
     """Whether the value is an integer from `least` to `most`."""
-    return is_integer(value) and least <= value <= most
+    return type(value) is int and least <= value <= most
 
 
 def is_count(value):

@@ -10,7 +10,7 @@ MAX_TIES = 60
 
 def is_short_walk(web, point, value):
     """Whether the value is a road from the point with at most 60 ties."""
-    return is_walk(web, point, value) and len(value) <= 2 * MAX_TIES + 1
+    return isinstance(value, tuple) and len(value) <= 2 * MAX_TIES + 1 and is_walk(web, point, value)
 
 
 def is_short_word(web, value):

@@ -4,15 +4,18 @@ from treerooms.base.lots import partings
 
 
 class Side:
-    """A directed tie, from the room at `source` to the point `target`."""
+    """A directed tie, from the room at `source` to the point `target`, at which there is the room `goal`."""
 
-    def __init__(self, source, target, room, pairs):
+    def __init__(self, source, target, room, goal, pairs):
         goals = dict(pairs)
         self.source = source
         self.target = target
+        self.goal_table = goal.table
         self.within = tuple([member for member, _ in pairs])
         self.carries = tuple([goals.get(member) for member in range(room.size)])
         self.parts = partings(room, self.within)
+        # For each member r a, r the least one of its left lot, the pair of r and what a is carried to.
+        self.carried_parts = tuple([(least, self.carries[rest]) for least, rest in self.parts])
         self.leasts = tuple([member for member in range(room.size) if self.parts[member][0] == member])
 
 
@@ -21,8 +24,8 @@ def sides_of(rooms, ties):
     sides = {}
     for number, (begin, end, pairs) in enumerate(ties, start=1):
         back = tuple(sorted([(goal, member) for member, goal in pairs]))
-        sides[number] = Side(begin, end, rooms[begin], pairs)
-        sides[-number] = Side(end, begin, rooms[end], back)
+        sides[number] = Side(begin, end, rooms[begin], rooms[end], pairs)
+        sides[-number] = Side(end, begin, rooms[end], rooms[begin], back)
     return sides
 
 

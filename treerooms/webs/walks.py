@@ -1,19 +1,18 @@
 """Roads of any length, worked out without checking what is passed."""
 
 from treerooms.base.checks import is_within
-from treerooms.webs.webs import is_tie
 
 
 def is_walk(web, point, value):
     """Whether the value is a road from the point, with any number of ties."""
     if not isinstance(value, tuple) or len(value) % 2 == 0:
         return False
+    sizes, exits = web.sizes, web.exits
     at = point
-    for spot in range(0, len(value) - 1, 2):
-        stay, tie = value[spot], value[spot + 1]
-        if not is_stay(web, at, stay) or not is_tie(web, tie) or web.side(tie).source != at:
+    for stay, tie in zip(value[::2], value[1::2]):
+        if type(stay) is not int or type(tie) is not int or not 0 <= stay < sizes[at] or tie not in exits[at]:
             return False
-        at = web.side(tie).target
+        at = exits[at][tie]
     return is_stay(web, at, value[-1])
 
 
@@ -24,7 +23,7 @@ def is_any_word(web, value):
 
 def is_stay(web, point, value):
     """Whether the value is a member of the room at the point."""
-    return is_within(value, 0, web.rooms[point].size - 1)
+    return is_within(value, 0, web.sizes[point] - 1)
 
 
 def walk_end(web, point, road):
@@ -62,19 +61,19 @@ def is_pinch(web, road, place):
 
 def plain_walk(web, road):
     """The plain road that is equal to a road, wherever it begins."""
+    sides = web.sides
     done = []
     stay = road[0]
-    for spot in range(1, len(road), 2):
-        side = web.side(road[spot])
-        table = web.rooms[side.target].table
-        least, rest = side.parts[stay]
-        carried = side.carries[rest]
-        if least == 0 and done and done[-1] == -road[spot]:
+    for tie, behind in zip(road[1::2], road[2::2]):
+        side = sides[tie]
+        least, carried = side.carried_parts[stay]
+        if least == 0 and done and done[-1] == -tie:
             done.pop()
-            carried = table[done.pop()][carried]
+            carried = side.goal_table[done.pop()][carried]
         else:
-            done.extend([least, road[spot]])
-        stay = table[carried][road[spot + 1]]
+            done.append(least)
+            done.append(tie)
+        stay = side.goal_table[carried][behind]
     return (*done, stay)
 
 

@@ -26,6 +26,8 @@ class Web:
         self._ties = ties
         self._sides = sides_of(rooms, ties)
         self._beginnings = beginnings_of(len(rooms), ties)
+        self._sizes = tuple([room.size for room in rooms])
+        self._exits = tuple([{tie: self._sides[tie].target for tie in row} for row in self._beginnings])
 
     @classmethod
     def lone(cls, room):
@@ -52,6 +54,21 @@ class Web:
     def size(self):
         """The number of the ties."""
         return len(self._ties)
+
+    @property
+    def sizes(self):
+        """The numbers of the members of the rooms."""
+        return self._sizes
+
+    @property
+    def sides(self):
+        """All that is told of the directed ties, by these."""
+        return self._sides
+
+    @property
+    def exits(self):
+        """For each point the points to which the directed ties lead that begin there, by these, ascending."""
+        return self._exits
 
     def side(self, tie):
         """All that is told of a directed tie, which is not checked here."""

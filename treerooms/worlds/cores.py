@@ -34,23 +34,46 @@ def check_stocks(web, one, other):
     check_words(web, other)
 
 
-def members_brought(web, form):
-    """The numbers of members of the rooms at all stays of a plain word, added up."""
-    return web.rooms[0].size + sum([web.rooms[web.side(tie).target].size for tie in form[1::2]])
+def is_turnless(word):
+    """Whether no tie of a word has its opposite behind it, so that the plain word has the same ties."""
+    steps = word[1::2]
+    return not any([one == -other for one, other in zip(steps, steps[1:])])
+
+
+def members_brought(web, word):
+    """The numbers of members of the rooms at all stays of the plain form of a word, added up."""
+    form = word if is_turnless(word) else plain_walk(web, word)
+    sizes, sides = web.sizes, web.sides
+    return sizes[0] + sum([sizes[sides[tie].target] for tie in form[1::2]])
+
+
+def check_brought(web, words):
+    """Refuse checked words that bring too many members."""
+    total = 0
+    for word in words:
+        total += members_brought(web, word)
+        if total > MAX_BROUGHT:
+            raise TooMany(MAX_BROUGHT)
+
+
+def core_made(web, words):
+    """The core of the stock of checked words, however many members they bring."""
+    return core_world(web, [plain_walk(web, word) for word in words])
 
 
 def stock_core(web, words):
     """The core of the stock of checked words, which are refused if they bring too many members."""
-    forms = [plain_walk(web, word) for word in words]
-    if sum([members_brought(web, form) for form in forms]) > MAX_BROUGHT:
-        raise TooMany(MAX_BROUGHT)
-    return core_world(web, forms)
+    check_brought(web, words)
+    return core_made(web, words)
 
 
 def two_cores(web, one, other):
     """The cores of two stocks."""
     check_stocks(web, one, other)
-    return stock_core(web, one), stock_core(web, other)
+    # Both are refused ahead of the work for either.
+    check_brought(web, one)
+    check_brought(web, other)
+    return core_made(web, one), core_made(web, other)
 
 
 def two_rests(web, one, other):

@@ -46,6 +46,11 @@ class Folding:
         start = self.starts[spot]
         return self.head(start + self.ground.rooms[self.places[spot]].table[spot - start][member])
 
+    def lot_around(self, point, spot):
+        """The heads of the spots to which the members of the room at the point move a spot."""
+        start = self.starts[spot]
+        return [self.head(start + member) for member in self.ground.rooms[point].table[spot - start]]
+
     def partner(self, tie, spot):
         """The head of the spot with which a head is paired at a directed tie, None if there is none."""
         found = self.partners[tie].get(spot)

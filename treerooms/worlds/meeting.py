@@ -7,33 +7,59 @@ class Meeting:
     """Spots in the sequence in which they are met, and their numbers at their points."""
 
     def __init__(self, web):
+        self.ground = web
         self.found = []
-        self.numbers = {}
-        # For each point what the members lead its spots to, in the sequence of their numbers.
-        self.rows = [[] for _ in web.rooms]
+        self.spot_numbers = {}
         self.counts = [0] * web.points
-        self.links = [[] for _ in web.ties]
+        # Each lot with its point: the spots to which the members lead the one that was met first.
+        self.lots_met = []
+        self.in_lots = {}
+        self.links = {tie: [] for tie in range(1, web.size + 1)}
 
     def meet(self, point, spot):
         """Give a spot at a point the next number there, if it is met for the first time."""
-        if spot not in self.numbers:
-            self.numbers[spot] = self.counts[point]
+        if spot not in self.spot_numbers:
+            self.spot_numbers[spot] = self.counts[point]
             self.counts[point] += 1
             self.found.append((point, spot))
 
+    def meet_lot(self, point, lot):
+        """Meet all spots of a lot, which are told in the sequence of the members that lead there."""
+        self.lots_met.append((point, lot))
+        for spot in lot:
+            self.in_lots[spot] = True
+            self.meet(point, spot)
 
-def look_around(web, spots, meeting, point, spot):
+    def moves(self):
+        """For each point and each member the permutation of the numbers of the spots."""
+        rows = [[()] * count for count in self.counts]
+        for point, lot in self.lots_met:
+            numbers = [self.spot_numbers[spot] for spot in lot]
+            for number, line in zip(numbers, self.ground.rooms[point].table):
+                rows[point][number] = [numbers[member] for member in line]
+        return tuple([
+            tuple(zip(*lines)) if lines else ((),) * room.size
+            for room, lines in zip(self.ground.rooms, rows)
+        ])
+
+    def pairs(self):
+        """For each tie the pairs of the numbers of the spots, ascending."""
+        numbers = self.spot_numbers
+        return tuple([
+            tuple(sorted([(numbers[one], numbers[goal]) for one, goal in row])) for row in self.links.values()
+        ])
+
+
+def look_around(spots, meeting, point, spot):
     """Meet the spots to which the members move a spot, and those that it is paired with."""
-    row = [spots.led(spot, member) for member in range(web.rooms[point].size)]
-    meeting.rows[point].append(row)
-    for goal in row:
-        meeting.meet(point, goal)
-    for tie in web.beginnings(point):
+    if spot not in meeting.in_lots:
+        meeting.meet_lot(point, spots.lot_around(point, spot))
+    for tie, goal_point in meeting.ground.exits[point].items():
         goal = spots.partner(tie, spot)
         if goal is not None:
-            meeting.meet(web.side(tie).target, goal)
+            meeting.meet(goal_point, goal)
             if tie > 0:
-                meeting.links[tie - 1].append((spot, goal))
+                meeting.links[tie].append((spot, goal))
 
 
 def met_world(web, spots, begin, most):
@@ -47,17 +73,11 @@ def met_world(web, spots, begin, most):
     at = 0
     while at < len(meeting.found):
         point, spot = meeting.found[at]
-        look_around(web, spots, meeting, point, spot)
+        look_around(spots, meeting, point, spot)
         if most is not None and len(meeting.found) > most:
             return None
         at += 1
-    numbers = meeting.numbers
-    moves = tuple([
-        tuple([tuple([numbers[row[member]] for row in rows]) for member in range(room.size)])
-        for room, rows in zip(web.rooms, meeting.rows)
-    ])
-    pairs = tuple([tuple(sorted([(numbers[one], numbers[other]) for one, other in links])) for links in meeting.links])
-    return MadeWorld(web, moves, pairs)
+    return MadeWorld(web, meeting.moves(), meeting.pairs())
 
 
 class KeptSpots:
@@ -67,10 +87,9 @@ class KeptSpots:
         self.frame = frame
         self.remain = kept
 
-    def led(self, spot, member):
-        """The spot to which a member moves a spot."""
-        point, number = spot
-        return point, self.frame.world.moves[point][member][number]
+    def lot_around(self, point, spot):
+        """The spots to which the members of the room at the point move a spot."""
+        return [(point, row[spot[1]]) for row in self.frame.world.moves[point]]
 
     def partner(self, tie, spot):
         """The kept spot with which a spot is paired at a directed tie, None if there is none."""
@@ -89,10 +108,13 @@ class PairedSpots:
         self.one = one
         self.other = other
 
-    def led(self, spot, member):
-        """The pair to which a member moves both spots."""
-        point, first, second = spot
-        return point, self.one.moves[point][member][first], self.other.moves[point][member][second]
+    def lot_around(self, point, spot):
+        """The pairs to which the members of the room at the point move both spots."""
+        _, first, second = spot
+        return [
+            (point, row[first], other_row[second])
+            for row, other_row in zip(self.one.moves[point], self.other.moves[point])
+        ]
 
     def partner(self, tie, spot):
         """The pair with which both spots are paired at a directed tie, None if one of both is not."""
