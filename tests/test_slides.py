@@ -257,8 +257,8 @@ class Steps(unittest.TestCase):
     def test_wrong_names(self):
         good = ((TWO, THREE, TWO), (2, 0, 1), ((0, 1), (0, 1), (0, 2, 1)), (2, -1))
         check_arguments(self, lambda *given: renamed(*given).ties, (STAR, *good), [
-            webs_wrong(), operations((TWO, TWO, THREE), (TWO, THREE), (TWO, THREE, TWO, TWO), [TWO, THREE, TWO], (TWO, SIX, TWO), (TWO, THREE, 2)),
-            operations((0, 1, 2), (2, 2, 1), (2, 0), (2, 0, 1, 3), [2, 0, 1], (2, False, True), (2, 0, True), (-1, 0, 1), (2, 0, 10 ** 60)),
+            webs_wrong(), operations((TWO, THREE), (TWO, THREE, TWO, TWO), [TWO, THREE, TWO], (TWO, TWO, THREE), (TWO, SIX, TWO), (TWO, THREE, 2)),
+            operations((2, 2, 1), (2, 0), (2, 0, 1, 3), (0, 1, 2), [2, 0, 1], (2, False, True), (2, 0, True), (-1, 0, 1), (2, 0, 10 ** 60)),
             operations(((0, 1), (0, 1)), ((0, 1), (0, 1), (0, 1, 2), (0,)), ((0, 1), (0, 1), (1, 0, 2)), ((1, 0), (0, 1), (0, 1, 2)),
                        ((0, 1), (0, 1), (0, 1, 1)), ((0, 1), (0, 1), [0, 2, 1]), [(0, 1), (0, 1), (0, 2, 1)], ((0, True), (0, 1), (0, 2, 1)),
                        ((0, 1), (0, 1), (0, 2)), ((0, 2, 1), (0, 1), (0, 1))),

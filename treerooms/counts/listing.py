@@ -37,38 +37,55 @@ def way_made(room, makers, choice, idle):
     return tuple([moves[member] for member in range(room.size)])
 
 
-def pairings_of(tie, moves, permutations):
-    """All ways to pair the spots at both ends of a tie, each as ascending pairs, ascending."""
+def pairings_of(tie, ways, permutations):
+    """All ways to pair the spots at both ends of a tie, by the indices of the ways there.
+
+    Each is told as ascending pairs; they are ascending.
+    """
     begin, end, pairs = tie
-    steps = [(moves[begin][member], moves[end][goal]) for member, goal in pairs]
-    found = []
-    for one in permutations:
-        if all([followed(ahead, one) == followed(one, behind) for ahead, behind in steps]):
-            found.append(tuple(enumerate(one)))
+    found = {}
+    for at, way in enumerate(ways[begin]):
+        for other_at, other in enumerate(ways[end]):
+            steps = [(way[member], other[goal]) for member, goal in pairs]
+            found[(at, other_at)] = [
+                tuple(enumerate(one)) for one in permutations
+                if all([followed(ahead, one) == followed(one, behind) for ahead, behind in steps])
+            ]
     return found
 
 
-def full_moves(web, permutations):
-    """The moves of all full worlds, ascending."""
-    rows = [()]
-    for point, room in enumerate(web.rooms):
-        ways = all_ways(room, permutations)
-        done = [tie for tie in web.ties if max(tie[0], tie[1]) == point]
-        rows = [
-            row + (way,) for row in rows for way in ways
-            if all([pairings_of(tie, row + (way,), permutations) for tie in done])
-        ]
-    return rows
+class Listing:
+    """The ways of all rooms to move so many spots, and how they can be paired at the ties."""
 
+    def __init__(self, web, many):
+        permutations = all_permutations(many)
+        self.ground = web
+        self.ways = [all_ways(room, permutations) for room in web.rooms]
+        self.pairings = [pairings_of(tie, self.ways, permutations) for tie in web.ties]
 
-def full_parts(web, many):
-    """The moves and pairs of all full worlds, ascending."""
-    permutations = all_permutations(many)
-    found = []
-    for moves in full_moves(web, permutations):
+    def choices(self, tie, row):
+        """The ways to pair the spots at the tie with this index, if the points have the ways with these indices."""
+        begin, end, _ = self.ground.ties[tie]
+        return self.pairings[tie][(row[begin], row[end])]
+
+    def rows(self):
+        """The indices of the ways of all points for which all ties can be paired, ascending."""
         rows = [()]
-        for tie in web.ties:
-            choices = pairings_of(tie, moves, permutations)
-            rows = [row + (choice,) for row in rows for choice in choices]
-        found.extend([(moves, row) for row in rows])
-    return found
+        for point, ways in enumerate(self.ways):
+            done = [tie for tie, (begin, end, _) in enumerate(self.ground.ties) if max(begin, end) == point]
+            rows = [
+                row + (at,) for row in rows for at in range(len(ways))
+                if all([self.choices(tie, row + (at,)) for tie in done])
+            ]
+        return rows
+
+    def full_parts(self):
+        """The moves and pairs of all full worlds, ascending."""
+        found = []
+        for row in self.rows():
+            moves = tuple([ways[at] for ways, at in zip(self.ways, row)])
+            pairs = [()]
+            for tie in range(self.ground.size):
+                pairs = [done + (choice,) for done in pairs for choice in self.choices(tie, row)]
+            found.extend([(moves, one) for one in pairs])
+        return found

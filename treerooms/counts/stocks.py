@@ -4,7 +4,7 @@ from math import factorial
 
 from treerooms.base.checks import check_number
 from treerooms.base.rooms import check_room
-from treerooms.counts.listing import full_parts
+from treerooms.counts.listing import Listing
 from treerooms.counts.pairings import Tally
 from treerooms.counts.ways import free_renamings, is_free_way, lot_classes, number_of_kinds, raised, ways_number
 from treerooms.errors import TooMany
@@ -103,5 +103,5 @@ def all_worlds(web, many):
     check_kinds(web, many)
     if Tally(web).worlds(many) > MAX_WORLDS:
         raise TooMany(MAX_WORLDS)
-    for moves, pairs in full_parts(web, many):
+    for moves, pairs in Listing(web, many).full_parts():
         yield MadeWorld(web, moves, pairs)
