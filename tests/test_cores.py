@@ -505,5 +505,84 @@ class Bounds(unittest.TestCase):
         self.assertIs(are_alike_stocks(FREE23, (square,), (around,)), False)
 
 
+class RoomsOfTwentyFour(unittest.TestCase):
+    """Long words over a room of 24 members and an idle tie."""
+
+    ONCE = Web((WHOLE,), ((0, 0, IDLE),))
+    LONG = (0, 1, 0) + (1, 0) * 59
+
+    def word(self, ties, stays=(0,)):
+        """A word of so many ties without a pinch, with these stays in turn."""
+        return tuple(entry for at in range(ties) for entry in (stays[at % len(stays)], 1)) + (0,)
+
+    def test_one_long_word(self):
+        world = core(self.ONCE, (self.LONG,))
+        self.assertEqual((world.spots, [len(row) for row in world.pairs]), ((1440,), [60]))
+        # The lot of the begin, and behind it those that are met at the tie gone back, and at the tie, in turn.
+        self.assertEqual(world.moves[0][23][0], 23)
+        self.assertEqual(world.pairs[0][:3], ((0, 25), (24, 0), (25, 73)))
+        self.assertEqual((stock_index(self.ONCE, (self.LONG,)), is_long_stock(self.ONCE, (self.LONG,))), (None, True))
+        self.assertIs(stock_has(self.ONCE, (self.LONG,), self.LONG), True)
+        self.assertIs(stock_has(self.ONCE, (self.LONG,), self.LONG[:-2]), False)
+        self.assertIs(are_alike_stocks(self.ONCE, (self.LONG,), (self.LONG,)), True)
+        self.assertIs(are_one_stock(self.ONCE, (self.LONG,), (back(self.ONCE, self.LONG),)), True)
+
+    def test_same_as_the_slow_way(self):
+        chance = chances(24)
+        for stays in ((0,), (5,), (1, 7, 12)):
+            for ties in (1, 2, 4):
+                words = (self.word(ties, stays),)
+                self.assertEqual(parts(core(self.ONCE, words)), core_parts(self.ONCE, words))
+        for many in (1, 2, 3):
+            words = tuple(winding_word(chance, self.ONCE, 3) for _ in range(many))
+            self.assertEqual(parts(core(self.ONCE, words)), core_parts(self.ONCE, words))
+
+    def test_refused_words(self):
+        five = (self.LONG,) * 5
+        one = (self.LONG,)
+        for function in (core, stock_index, is_long_stock):
+            check_error(self, TooMany(2000), function, (self.ONCE, five))
+            # All words are asked for their form ahead of this.
+            check_error(self, InvalidRoad(""), function, (self.ONCE, five[:4] + ((24,),)))
+            check_error(self, InvalidRoad(""), function, (self.ONCE, five[:4] + (self.LONG + (1, 0),)))
+            check_error(self, InvalidRoad(""), function, (self.ONCE, five[:4] + ((True,) + self.LONG[1:],)))
+            check_error(self, InvalidRoad(""), function, (self.ONCE, five[:4] + ((0, True, 0) + self.LONG[3:],)))
+            check_error(self, InvalidRoad(""), function, (self.ONCE, five[:4] + (list(self.LONG),)))
+        check_error(self, TooMany(2000), stock_has, (self.ONCE, five, (0,)))
+        check_error(self, InvalidRoad(""), stock_has, (self.ONCE, five, (24,)))
+        for function, rest in ((are_one_stock, ()), (are_alike_stocks, ()), (stock_between, ()), (is_stock_between, (None,))):
+            check_error(self, TooMany(2000), function, (self.ONCE, five, one) + rest)
+            check_error(self, TooMany(2000), function, (self.ONCE, one, five) + rest)
+            check_error(self, InvalidRoad(""), function, (self.ONCE, five, ((24,),)) + rest)
+            if function is not are_one_stock:
+                # Behind too many members, also of the other stock, come stocks that are not long.
+                check_error(self, TooMany(2000), function, (self.ONCE, ((1,),), five) + rest)
+                check_error(self, Refused(("round",)), function, (self.ONCE, ((1,),), one) + rest)
+
+    def test_both_sides_of_the_bound(self):
+        # 61 and 22 stays bring 1,992 members, one more stay 2,016.
+        good, bad = (self.LONG, self.word(21)), (self.LONG, self.word(22))
+        self.assertEqual(core(self.ONCE, good).spots, (72,))
+        self.assertEqual(core(self.ONCE, (self.LONG, (5,) + self.word(21)[1:])).spots, (1944,))
+        check_error(self, TooMany(2000), core, (self.ONCE, bad))
+        check_error(self, TooMany(2000), core, (self.ONCE, bad[::-1]))
+        check_error(self, TooMany(2000), core, (self.ONCE, good + ((0,),)))
+        # The members are those of the plain words.
+        around = (0,) + (1, 0, -1, 0) * 15
+        self.assertEqual(core(self.ONCE, (around,) * 5).spots, (24,))
+        self.assertEqual(core(self.ONCE, (self.LONG,) + (around,) * 4).spots, (1440,))
+        turning = self.word(11) + (-1, 0) * 12 + (1, 0) * 12
+        self.assertEqual(any_plain(self.ONCE, turning), self.word(11))
+        self.assertEqual(stock_index(self.ONCE, (self.LONG, turning)), None)
+        longer = self.word(22)[:-1] + (0, 1, 0, -1, 0)
+        self.assertEqual(any_plain(self.ONCE, longer), self.word(22))
+        check_error(self, TooMany(2000), core, (self.ONCE, (self.LONG, longer)))
+        # A tie gone back behind itself, but not at a pinch.
+        kept = (0,) + (1, 5, -1, 5) * 10 + (1, 0)
+        self.assertEqual(any_plain(self.ONCE, kept), kept)
+        self.assertIsNone(stock_index(self.ONCE, (self.LONG, kept)))
+        check_error(self, TooMany(2000), core, (self.ONCE, (self.LONG, kept[:-1] + (0, 1, 0))))
+
+
 if __name__ == "__main__":
     unittest.main()
