@@ -563,7 +563,7 @@ class RoomsOfTwentyFour(unittest.TestCase):
         # 61 and 22 stays bring 1,992 members, one more stay 2,016.
         good, bad = (self.LONG, self.word(21)), (self.LONG, self.word(22))
         self.assertEqual(core(self.ONCE, good).spots, (72,))
-        self.assertEqual(core(self.ONCE, (self.LONG, (5,) + self.word(21)[1:])).spots, (1944,))
+        self.assertEqual(core(self.ONCE, (self.LONG, (5,) + self.word(21)[1:])).spots, (1416,))
         check_error(self, TooMany(2000), core, (self.ONCE, bad))
         check_error(self, TooMany(2000), core, (self.ONCE, bad[::-1]))
         check_error(self, TooMany(2000), core, (self.ONCE, good + ((0,),)))

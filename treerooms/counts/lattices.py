@@ -25,7 +25,7 @@ class Lattice:
 
     def add(self, row):
         """Take one more row in."""
-        rest = {column: many % self.modulus for column, many in row.items() if int(many) % self.modulus != 0}
+        rest = {column: many % self.modulus for column, many in row.items() if many % self.modulus != 0}
         while rest:
             column = min(rest)
             kept = self.row_at(column)
@@ -37,7 +37,7 @@ class Lattice:
 
     def _less(self, row, other, times):
         """The row less the other one, taken some times; numbers are taken up to `modulus`."""
-        found = dict(row)
+        found = {column: row[column] for column in row}
         for column, many in other.items():
             left = (found.get(column, 0) - times * many) % self.modulus
             if left == 0:

@@ -67,7 +67,8 @@ def keeps_web(web, names):
     """Whether the value has names that lead the web to itself, and the point 0 to the point 0."""
     if not are_names(web.rooms, web.size, web.rooms, names) or names[0][0] != 0:
         return False
-    return renamed_ties(web.ties, *names) == web.ties
+    points, renamings, ties = names
+    return renamed_ties(web.ties, points, renamings, ties) == web.ties
 
 
 def renaming_led(web, names, word):

@@ -95,7 +95,7 @@ class Totals:
 
 def difference(row, other):
     """The row less the other one."""
-    found = dict(row)
+    found = {column: row[column] for column in row}
     for column, many in other.items():
         found[column] = found.get(column, 0) - many
     return found

@@ -105,4 +105,5 @@ def does_name(web, ties, step, other):
         return False
     if web.size != other.size or not are_names(web.rooms, web.size, other.rooms, step[1:]):
         return False
-    return renamed_ties(ties, *step[1:]) == other.ties
+    _, points, renamings, names = step
+    return renamed_ties(ties, points, renamings, names) == other.ties
