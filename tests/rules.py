@@ -19,6 +19,7 @@ BARRED = (
     "register mro elements open input law version_info with_traceback add_note attrgetter breakpoint compile copyright dir eval exec "
     "exit gc globals help id importlib license locals methodcaller os quit vars sys"
 ).split()
+READERS = ("__eq__", "__str__", "__repr__", "__len__", "__contains__", "__getitem__", "__iter__")
 AT_ONCE = ("zip", "enumerate", "reversed", "map")
 TAKE_AT_ONCE = ("list", "tuple", "dict", "sorted", "sum", "any", "all", "enumerate", "zip", "min", "max")
 
@@ -151,6 +152,39 @@ def unknown_methods(tree, own):
         node.lineno for node in ast.walk(tree)
         if isinstance(node, ast.Call) and isinstance(node.func, ast.Attribute) and node.func.attr not in list(METHODS) + list(own)
     ]
+
+
+def starred_values(tree):
+    """L7: behind a star in a call stand only names, attributes off names, literals, and lists, tuples and dicts of these."""
+    places = []
+    for node in ast.walk(tree):
+        if isinstance(node, ast.Call):
+            for value in [part.value for part in node.args if isinstance(part, ast.Starred)]:
+                off_name = isinstance(value, ast.Attribute) and isinstance(value.value, ast.Name)
+                if not off_name and not isinstance(value, (ast.Name, ast.List, ast.Tuple, ast.Constant)):
+                    places.append(node.lineno)
+    return places
+
+
+def changing_readers(tree):
+    """L5, L28: properties, operators and the methods for texts, sizes and equality assign no attribute and no item."""
+    places = []
+    for one in functions(tree):
+        reads = [part for part in one.decorator_list if getattr(part, "id", "") == "property"]
+        if reads or one.name in READERS:
+            for node in ast.walk(one):
+                if isinstance(node, (ast.Attribute, ast.Subscript)) and not isinstance(node.ctx, ast.Load):
+                    places.append(node.lineno)
+    return places
+
+
+def values_by_names(tree):
+    """L3: what is assigned at module level is written out."""
+    places = []
+    for node in tree.body:
+        if isinstance(node, ast.Assign):
+            places += [part.lineno for part in ast.walk(node.value) if isinstance(part, (ast.Name, ast.Call, ast.Attribute))]
+    return places
 
 
 def barred_expressions(tree):

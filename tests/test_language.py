@@ -83,6 +83,9 @@ class Language(unittest.TestCase):
             self.assertEqual(rules.barred_expressions(tree), [], path)
             self.assertEqual(rules.kept_iterators(tree), [], path)
             self.assertEqual(rules.shadowing_comprehensions(tree), [], path)
+            self.assertEqual(rules.starred_values(tree), [], path)
+            self.assertEqual(rules.changing_readers(tree), [], path)
+            self.assertEqual(rules.values_by_names(tree), [], path)
 
     def test_no_name_is_a_property_and_something_else(self):
         trees = [ast.parse(text) for _, text in files()]
@@ -93,6 +96,8 @@ class Language(unittest.TestCase):
         self.assertEqual(read & stored, set())
         within = {part.name for node in nodes if isinstance(node, ast.ClassDef) for part in node.body if part in methods}
         self.assertEqual((within - read) & stored, set())
+        plain = {part.name for node in nodes if isinstance(node, ast.ClassDef) for part in node.body if part in methods and not part.decorator_list}
+        self.assertEqual(plain & read, set())
         generators = {one.name for one in methods if [part for part in ast.walk(one) if isinstance(part, (ast.Yield, ast.YieldFrom))]}
         self.assertEqual(sorted(one.name for one in methods if one.name in generators), sorted(generators))
 
@@ -134,6 +139,9 @@ class Rules(unittest.TestCase):
             (rules.kept_iterators, "def told(a): return a.items()"),
             (rules.shadowing_comprehensions, "def told(a, b): return [[b for b in c] for c in a]"),
             (rules.shadowing_comprehensions, "def told(a): return [[c for c in c] for c in a]"),
+            (rules.starred_values, "def told(a): return one(*a[1:])"), (rules.starred_values, "def told(a): return one(*list(a))"),
+            (rules.changing_readers, "class One:\n @property\n def two(self):\n  self.a = 1"),
+            (rules.changing_readers, "class One:\n def __len__(self):\n  self.a[0] = 1"), (rules.values_by_names, "ONE = 1\nTWO = (ONE, 2)"),
         ):
             self.assertTrue(rule(ast.parse(lines)), lines)
         self.assertTrue(rules.unknown_methods(ast.parse("def told(xs): xs.sort()"), ()))

@@ -30,7 +30,7 @@ class Meeting:
             self.in_lots[spot] = True
             self.meet(point, spot)
 
-    def moves(self):
+    def moves_met(self):
         """For each point and each member the permutation of the numbers of the spots."""
         rows = [[()] * count for count in self.counts]
         for point, lot in self.lots_met:
@@ -42,7 +42,7 @@ class Meeting:
             for room, lines in zip(self.ground.rooms, rows)
         ])
 
-    def pairs(self):
+    def pairs_met(self):
         """For each tie the pairs of the numbers of the spots, ascending."""
         numbers = self.spot_numbers
         return tuple([
@@ -77,7 +77,7 @@ def met_world(web, spots, begin, most):
         if most is not None and len(meeting.found) > most:
             return None
         at += 1
-    return MadeWorld(web, meeting.moves(), meeting.pairs())
+    return MadeWorld(web, meeting.moves_met(), meeting.pairs_met())
 
 
 class KeptSpots:
