@@ -316,6 +316,9 @@ class Calls(unittest.TestCase):
         self.assertEqual(len(desk["q"]) // 2, 24)
         check_error(self, Refused(("long", 0)), desk.do, (("raised", "q", 2),))
         desk.do(("raised", "q", -1), ("raised", "q", 1), ("turned", "q", "q"))
+        for many in range(-6, 7):
+            desk.do(("put", "r", WALK), ("raised", "r", many))
+            self.assertEqual(desk["r"], any_plain(FREE23, joined(FREE23, (0,), *[WALK if many > 0 else back(FREE23, WALK)] * abs(many))))
 
     def test_many_words(self):
         # Names are bounded, not their number.

@@ -78,10 +78,10 @@ def change_by_room(web, point, lot, ties, steps, back_steps):
     `steps` and `back_steps` have the roads of the directed ties that are led otherwise than to themselves.
     """
     goal = MadeWeb(web.rooms + (room_of_lot(web.rooms[point], lot),), ties)
-    spans = tuple(range(web.points))
-    there = Lead(web, goal, spans, lone_stays(web), {**lone_steps(web), **steps}, (0,))
-    stays = lone_stays(web) + (tuple([(member,) for member in lot]),)
-    back = Lead(goal, web, spans + (point,), stays, {**lone_steps(web), **back_steps}, (0,))
+    spans, own_stays, own_steps = tuple(range(web.points)), lone_stays(web), lone_steps(web)
+    there = Lead(web, goal, spans, own_stays, {**own_steps, **steps}, (0,))
+    stays = own_stays + (tuple([(member,) for member in lot]),)
+    back = Lead(goal, web, spans + (point,), stays, {**own_steps, **back_steps}, (0,))
     return Change(there, back)
 
 
