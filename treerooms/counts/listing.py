@@ -63,29 +63,45 @@ class Listing:
         self.ways = [all_ways(room, permutations) for room in web.rooms]
         self.pairings = [pairings_of(tie, self.ways, permutations) for tie in web.ties]
 
-    def choices(self, tie, row):
-        """The ways to pair the spots at the tie with this index, if the points have the ways with these indices."""
-        begin, end, _ = self.ground.ties[tie]
-        return self.pairings[tie][(row[begin], row[end])]
-
     def rows(self):
         """The indices of the ways of all points for which all ties can be paired, ascending."""
-        rows = [()]
-        for point, ways in enumerate(self.ways):
-            done = [tie for tie, (begin, end, _) in enumerate(self.ground.ties) if max(begin, end) == point]
-            rows = [
-                row + (at,) for row in rows for at in range(len(ways))
-                if all([self.choices(tie, row + (at,)) for tie in done])
-            ]
-        return rows
+        # Beside each row the ways that are still open for all points, as far as the ties to the row tell.
+        rows = [((), tuple([tuple(range(len(ways))) for ways in self.ways]))]
+        for point in range(self.ground.points):
+            rows = self._rows_with(point, rows)
+        return [row for row, _ in rows]
 
-    def full_parts(self):
-        """The moves and pairs of all full worlds, ascending."""
+    def _rows_with(self, point, rows):
+        """The rows with one way more, of the point, that leave some way open for each point."""
         found = []
-        for row in self.rows():
-            moves = tuple([ways[at] for ways, at in zip(self.ways, row)])
-            pairs = [()]
-            for tie in range(self.ground.size):
-                pairs = [done + (choice,) for done in pairs for choice in self.choices(tie, row)]
-            found.extend([(moves, one) for one in pairs])
+        for row, open_ways in rows:
+            for at in open_ways[point]:
+                left = self._left_open(point, at, open_ways)
+                if all(left):
+                    found.append((row + (at,), left))
+        return found
+
+    def _left_open(self, point, at, open_ways):
+        """The ways that are still open for all points if the point has the way with this index."""
+        left = list(open_ways)
+        left[point] = (at,)
+        for tie, goal in self.ground.exits[point].items():
+            if goal >= point:
+                left[goal] = tuple([other for other in left[goal] if self._choices(tie, at, other)])
+        return tuple(left)
+
+    def _choices(self, tie, at, other_at):
+        """The ways to pair the spots at a directed tie, if its begin and its end have the ways with these indices."""
+        return self.pairings[abs(tie) - 1][(at, other_at) if tie > 0 else (other_at, at)]
+
+    def moves_of(self, row):
+        """The moves of the ways with these indices."""
+        return tuple([ways[at] for ways, at in zip(self.ways, row)])
+
+    def pair_rows(self, row):
+        """The pairs of all full worlds in which the points have the ways with these indices, ascending."""
+        found = [()]
+        for number, (begin, end, _) in enumerate(self.ground.ties, start=1):
+            choices = self._choices(number, row[begin], row[end])
+            found = [done + (choice,) for done in found for choice in choices]
         return found

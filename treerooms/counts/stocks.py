@@ -103,5 +103,8 @@ def all_worlds(web, many):
     check_kinds(web, many)
     if Tally(web).worlds(many) > MAX_WORLDS:
         raise TooMany(MAX_WORLDS)
-    for moves, pairs in Listing(web, many).full_parts():
-        yield MadeWorld(web, moves, pairs)
+    listing = Listing(web, many)
+    for row in listing.rows():
+        moves = listing.moves_of(row)
+        for pairs in listing.pair_rows(row):
+            yield MadeWorld(web, moves, pairs)
