@@ -2,7 +2,7 @@
 
 from treerooms.base.checks import is_within
 from treerooms.base.leading import closed_pairs
-from treerooms.base.lots import are_members, turned_member
+from treerooms.base.lots import are_members
 from treerooms.base.permutations import is_permutation
 from treerooms.base.rooms import Room
 
@@ -38,8 +38,9 @@ def slid_ties(ties, tie, over):
 def turned_ties(rooms, ties, tie, by):
     """The ties behind turning a directed tie by a member."""
     begin, end, pairs = told_from(ties, tie)
-    turned = [(turned_member(rooms[begin], member, by), goal) for member, goal in pairs]
-    return with_told(ties, tie, begin, end, turned)
+    table, undo = rooms[begin].table, rooms[begin].contraries[by]
+    row = table[by]
+    return with_told(ties, tie, begin, end, [(table[row[member]][undo], goal) for member, goal in pairs])
 
 
 def is_renaming(room, other, value):
