@@ -114,6 +114,34 @@ def changed_while_walked(tree):
     return places
 
 
+def handed_on(node):
+    """What `extend`, `update`, `+=` or `|=` changes, and what it is handed; None for anything else."""
+    if isinstance(node, ast.AugAssign) and isinstance(node.op, (ast.Add, ast.BitOr)):
+        return node.target, [node.value]
+    if isinstance(node, ast.Call) and isinstance(node.func, ast.Attribute) and node.func.attr in ("extend", "update"):
+        return node.func.value, node.args
+    return None
+
+
+def changed_by_itself(tree):
+    """L5, L23: `extend`, `update`, `+=` and `|=` are not handed what they change, nor an item of it, by whatever name."""
+    places = []
+    for function in functions(tree):
+        names = aliases(function)
+        for node in ast.walk(function):
+            if isinstance(node, (ast.For, ast.comprehension)):
+                for target in [part for part in ast.walk(node.target) if isinstance(part, ast.Name)]:
+                    for name in roots(node.iter):
+                        names[one_name(names, name)] = one_name(names, target.id)
+        for node in ast.walk(function):
+            if handed_on(node):
+                target, handed = handed_on(node)
+                changed = {one_name(names, name) for name in roots(target)}
+                given = {one_name(names, name) for part in handed for name in roots(part)}
+                places += [node.lineno] if changed & given else []
+    return places
+
+
 def names_with_other_meanings(tree):
     """L15: no parameter, variable or nested function is called as an import, a class or a builtin."""
     taken = set(dir(builtins))

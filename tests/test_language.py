@@ -66,6 +66,7 @@ class Language(unittest.TestCase):
     def test_what_is_walked_is_not_changed(self):
         for path, text in files():
             self.assertEqual(rules.changed_while_walked(ast.parse(text)), [], path)
+            self.assertEqual(rules.changed_by_itself(ast.parse(text)), [], path)
 
     def test_names_builtins_and_methods(self):
         own = {
@@ -127,6 +128,20 @@ class Rules(unittest.TestCase):
             self.assertTrue(rules.changed_while_walked(tree), lines)
         for lines in ("for x in xs: ys.append(x)", "for x in list(xs): xs.pop()", "for x in xs[:]: xs.append(x)"):
             self.assertEqual(rules.changed_while_walked(ast.parse("def told(xs, ys):\n " + lines)), [], lines)
+
+    def test_changes_by_what_is_changed(self):
+        for lines in (
+            "xs[k] += xs[k - 1]", "xs += xs", "xs.extend(xs)", "self.xs.extend(self.xs)", "here.xs += there.xs", "xs[k].extend(xs[0])",
+            "xs[k] |= xs[0]", "xs.update(xs)", "ys = xs\nys += xs", "xs += ys or xs", "xs += xs[0] if k else ys", "for row in xs: xs[0] += row",
+            "for k, row in enumerate(xs): xs[k].extend(row)", "xs.extend(reversed(xs))",
+        ):
+            tree = ast.parse("def told(self, xs, ys, k, here, there):\n " + lines.replace("\n", "\n "))
+            self.assertTrue(rules.changed_by_itself(tree), lines)
+        for lines in (
+            "xs[k] = xs[k] + xs[k - 1]", "xs.extend(list(xs))", "xs += xs[:]", "xs[k] += 1", "xs[k] += ys[k]", "xs.extend([x for x in xs])",
+            "for row in ys: xs += row", "xs.append(xs[0])",
+        ):
+            self.assertEqual(rules.changed_by_itself(ast.parse("def told(xs, ys, k):\n " + lines.replace("\n", "\n "))), [], lines)
 
     def test_other_rules(self):
         for rule, lines in (

@@ -59,7 +59,7 @@ def number_of_kinds(classes, many):
     counts = [1] + [0] * many
     for one in classes:
         for spots in range(one.index, many + 1):
-            counts[spots] += counts[spots - one.index]
+            counts[spots] = counts[spots] + counts[spots - one.index]
     return counts[many]
 
 
